@@ -1,0 +1,1 @@
+"""Crosshomes: households that exchange homes."""

@@ -1,0 +1,150 @@
+"""What several tests need: SHEETs, values of all kinds, and a plain trying of all possibilities."""
+
+import itertools
+import random
+
+from crosshomes.plans import Plan
+
+SIX = (
+    (
+        ("ann", ("bob",)),
+        ("bob", ("ann", "cat")),
+        ("cat", ("bob", "dan", "eve")),
+        ("dan", ("cat", "eve")),
+        ("eve", ("cat", "dan")),
+        ("fay", ("cat", "new")),
+    ),
+    ("new",),
+)
+KITE = ((("a", ("b", "c")), ("b", ("a", "c")), ("c", ("a", "b", "d")), ("d", ("c",))), ())
+NOBODY = ((), ())
+# Nobody suits anybody: wishes of one side alone, for an empty home and for what is no home.
+LONELY = ((("a", ("b", "x")), ("b", ("c",)), ("c", ("e",)), ("d", ())), ("e",))
+# 8 households who want each other, and 3 empty homes: the greatest SHEET.
+CROWD = (
+    tuple((name, tuple(other for other in "abcdefghxyz" if other != name)) for name in "abcdefgh"),
+    ("x", "y", "z"),
+)
+
+
+def nested(depth):
+    value = ()
+    for _ in range(depth):
+        value = (value,)
+    return value
+
+
+# Values that are no SHEET, no PART and no set of NAMEs, of each kind that a `thing` may have.
+ODD_THINGS = (
+    0, 1, -1, 10 ** 30, True, False, None, "", "ann", "Ann", "ab c", [], [[]], [(), ()], [0], (0,), (None,), (True,),
+    (((),),), ("", ""), (("",), ""), ((), (), ()), nested(12), [nested(11)], Plan(), Plan(Plan.ring("a", "b")),
+    (Plan(), ()), ((), Plan()), ((Plan(),), ()), ((), (Plan(),)), (Plan(),), ((Plan(), ()),), (("a", Plan()),),
+    (("a",), Plan()), ((("a", Plan()),), ()), (("a",), 0), (("a",), None), (("a",), True), (("a",), ("b",)),
+    ((["a"],), ()), ((0,), ()), (0, ()), ((), 0), ((), None), ({}.get("a"), "a"),
+)
+
+
+def lists(value):
+    """The same value with lists for tuples, at every depth."""
+    if isinstance(value, (list, tuple)):
+        return [lists(one) for one in value]
+    return value
+
+
+def raised(call):
+    """The class and the attributes of the error that a call raises."""
+    try:
+        call()
+    except Exception as error:
+        return error.__class__, vars(error)
+    return None
+
+
+def subsets(names):
+    return [chosen for many in range(len(names) + 1) for chosen in itertools.combinations(names, many)]
+
+
+def sheet_of(names, pairs):
+    """The SHEET of these households in which just these pairs suit each other."""
+    wants = {name: [] for name in names}
+    for one, other in pairs:
+        wants[one].append(other)
+        wants[other].append(one)
+    return tuple((name, tuple(sorted(wants[name]))) for name in names), ()
+
+
+def all_graphs(many):
+    """Every SHEET of so many households by who suits whom."""
+    names = "abcdefgh"[:many]
+    return [sheet_of(names, pairs) for pairs in subsets(list(itertools.combinations(names, 2)))]
+
+
+def random_sheets(seed, count, most):
+    """SHEETs of at most so many households and 3 empty homes, with wishes for what is no home, too."""
+    chance = random.Random(seed)
+    found = []
+    for _ in range(count):
+        names = sorted(chance.sample("abcdefghijkl", chance.randint(0, most)))
+        free = [name for name in "mnopqr" if chance.random() < 0.5]
+        empties = tuple(sorted(free[:3]))
+        part = chance.choice((0.2, 0.4, 0.6, 0.8))
+        wishes = sorted([*names, *empties, "gone", "nohome"])
+        rows = []
+        for name in names:
+            rows.append((name, tuple(one for one in wishes if one != name and chance.random() < part)))
+        found.append((tuple(rows), empties))
+    return found
+
+
+def plain_pairs(sheet, without=()):
+    """All pairs that suit each other, by the words of the document."""
+    wants = {name: wanted for name, wanted in sheet[0] if name not in without}
+    return [(a, b) for a, b in itertools.combinations(sorted(wants), 2) if b in wants[a] and a in wants[b]]
+
+
+def plain_best(sheet, without=()):
+    """All best SWAPS, by trying all sets of pairs, ascending."""
+    pairs = plain_pairs(sheet, without)
+    best = [()]
+    for many in range(1, len(sheet[0]) // 2 + 1):
+        tried = itertools.combinations(pairs, many)
+        found = [swaps for swaps in tried if len({name for pair in swaps for name in pair}) == 2 * many]
+        if not found:
+            break
+        best = found
+    return sorted(best)
+
+
+def plain_parts(sheet, some):
+    """The parts of some, by joining what suits until nothing more joins."""
+    parts = [{name} for name in some]
+    for one, other in plain_pairs(sheet):
+        if one in some and other in some:
+            joined = [part for part in parts if one in part or other in part]
+            parts = [part for part in parts if part not in joined] + [set().union(*joined)]
+    return sorted(tuple(sorted(part)) for part in parts)
+
+
+def all_moves(names):
+    """Every choice of moves between these names by which no home is taken twice."""
+    found = []
+    for homes in itertools.product((None, *names), repeat=len(names)):
+        moves = {name: home for name, home in zip(names, homes) if home is not None}
+        once = len(set(moves.values())) == len(moves)
+        if once and all(name != home for name, home in moves.items()):
+            found.append(moves)
+    return found
+
+
+def plain_parts_of(moves):
+    """The PARTs of moves, in any order: rows from those whose home nobody takes, then rings from any name."""
+    parts, seen = [], set()
+    for name in sorted(moves, key=lambda one: one in moves.values()):
+        if name not in seen:
+            names = [name]
+            while moves[names[-1]] in moves and moves[names[-1]] not in names:
+                names.append(moves[names[-1]])
+            last = moves[names[-1]]
+            parts.append((tuple(names), "" if last == name else last))
+            seen.update(names)
+    return parts

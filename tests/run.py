@@ -1,0 +1,67 @@
+"""Runs every test of the project, and every test that stands under ../shared/tests.
+
+Each file runs in a process of its own, so that files of one name in two folders do not meet. The last line tells how
+many tests passed and failed; the exit code is 0 only if at least one test ran and none failed.
+"""
+
+import pathlib
+import re
+import subprocess
+import sys
+
+TOP = pathlib.Path(__file__).resolve().parent.parent
+FOLDERS = (TOP / "tests", TOP.parent / "shared" / "tests")
+
+
+def test_files(folder):
+    """The files test_*.py in a folder and all folders in it; none if there is no such folder."""
+    return sorted(pathlib.Path(folder).rglob("test_*.py"))
+
+
+def told_of(word, output):
+    """The sum of the numbers that the closing lines of unittest give for a word, such as errors=2."""
+    closing = re.findall(r"^(?:OK|FAILED|NO TESTS RAN) \((.*)\)$", output, re.MULTILINE)
+    return sum(int(many) for line in closing for many in re.findall(rf"(?<![a-z] ){word}=(\d+)", line))
+
+
+def counted(output, code):
+    """How many tests passed, failed and were skipped, by the closing lines and the exit code of unittest."""
+    ran = sum(int(many) for many in re.findall(r"^Ran (\d+) tests? in ", output, re.MULTILINE))
+    failed = sum(told_of(word, output) for word in ("failures", "errors", "unexpected successes"))
+    skipped = told_of("skipped", output)
+    no_tests = code == 5 and ran == 0
+    if code != 0 and not no_tests:
+        failed = max(failed, 1)
+    # A test with several failing parts is told once for each of them.
+    return max(ran - failed - skipped, 0), failed, skipped
+
+
+def run_file(path):
+    """The output and the exit code of the tests in one file."""
+    folder = str(path.parent)
+    words = [sys.executable, "-m", "unittest", "discover", "-s", folder, "-t", folder, "-p", path.name]
+    done = subprocess.run(words, cwd=TOP, stdin=subprocess.DEVNULL, stdout=subprocess.PIPE, stderr=subprocess.STDOUT)
+    return done.stdout.decode("utf-8", "replace"), done.returncode
+
+
+def run_all(folders):
+    """The numbers of tests that passed, failed and were skipped in all folders; prints what happens."""
+    sums = (0, 0, 0)
+    for path in [path for folder in folders for path in test_files(folder)]:
+        output, code = run_file(path)
+        counts = counted(output, code)
+        if counts[1]:
+            print(output)
+        print(f"{path}: {counts[0]} right, {counts[1]} wrong, {counts[2]} left out", flush=True)
+        sums = tuple(one + more for one, more in zip(sums, counts))
+    return sums
+
+
+def main(folders):
+    passed, failed, skipped = run_all(folders)
+    print(f"{passed} passed, {failed} failed" + (f", {skipped} skipped" if skipped else ""))
+    return 0 if passed and not failed else 1
+
+
+if __name__ == "__main__":
+    sys.exit(main(FOLDERS))
