@@ -18,21 +18,14 @@ def test_files(folder):
     return sorted(pathlib.Path(folder).rglob("test_*.py"))
 
 
-def told_of(word, output):
-    """The sum of the numbers that the closing lines of unittest give for a word, such as errors=2."""
-    closing = re.findall(r"^(?:OK|FAILED|NO TESTS RAN) \((.*)\)$", output, re.MULTILINE)
-    return sum(int(many) for line in closing for many in re.findall(rf"(?<![a-z] ){word}=(\d+)", line))
-
-
 def counted(output, code):
-    """How many tests passed, failed and were skipped, by the closing lines and the exit code of unittest."""
+    """How many tests passed, failed and were skipped, by the output and the exit code of unittest."""
     ran = sum(int(many) for many in re.findall(r"^Ran (\d+) tests? in ", output, re.MULTILINE))
-    failed = sum(told_of(word, output) for word in ("failures", "errors", "unexpected successes"))
-    skipped = told_of("skipped", output)
+    # A test with several failing parts is told once for each of them, and counts once.
+    told = set(re.findall(r"^(?:FAIL|ERROR|UNEXPECTED SUCCESS): (\S+ \(.*?\))", output, re.MULTILINE))
+    skipped = sum(int(many) for many in re.findall(r"^(?:OK|FAILED) \(.*skipped=(\d+).*\)$", output, re.MULTILINE))
     no_tests = code == 5 and ran == 0
-    if code != 0 and not no_tests:
-        failed = max(failed, 1)
-    # A test with several failing parts is told once for each of them.
+    failed = len(told) if code == 0 or no_tests else max(len(told), 1)
     return max(ran - failed - skipped, 0), failed, skipped
 
 

@@ -45,7 +45,7 @@ SIGNATURES = {
 }
 PLAN_METHODS = (
     "of", "ring", "row", "parts", "movers", "ends", "left", "text", "within", "__init__", "__call__", "__contains__",
-    "__len__", "__eq__", "__lt__", "__le__", "__gt__", "__ge__", "__and__", "__or__", "__add__", "__sub__",
+    "__len__", "__bool__", "__eq__", "__lt__", "__le__", "__gt__", "__ge__", "__and__", "__or__", "__add__", "__sub__",
 )
 PLAN = Plan((("ann", "bob"), ""), (("cat", "dan", "eve"), ""), (("fay",), "new"))
 # Each function with its arguments by their names, in order, and the word from which on they go by name alone.

@@ -47,7 +47,8 @@ class Runner(unittest.TestCase):
     def test_several_parts_of_one_test_fail(self):
         parts = RIGHT.replace("        self.assert", "        for _ in range(5):\n          with self.subTest():\n            self.assert")
         self.assertEqual(self.run_on(("test_a.py", parts)), (0, "2 passed, 0 failed"))
-        self.assertEqual(self.run_on(("test_a.py", parts.replace('("a",))\n', '("b",))\n')))[0], 1)
+        wrong = parts.replace('("a",))\n', '("b",))\n')
+        self.assertEqual(self.run_on(("test_a.py", wrong)), (1, "1 passed, 1 failed"))
 
     def test_left_out_and_unexpected(self):
         self.assertEqual(self.run_on(("test_a.py", LEFT_OUT)), (0, "1 passed, 0 failed, 1 skipped"))
