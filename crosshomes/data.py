@@ -28,6 +28,14 @@ def _is_row(thing):
     return is_name(name) and is_set(wants) and name not in wants
 
 
+def all_sets(names):
+    """All sets of these names, from the least one on: those with fewer members first, then by comparison."""
+    found = [()]
+    for name in sorted(names):
+        found = [*found, *[(*some, name) for some in found]]
+    return sorted(found, key=lambda some: (len(some), some))
+
+
 def is_sheet(thing):
     """Whether thing is a SHEET."""
     if not isinstance(thing, tuple) or len(thing) != 2:
@@ -68,14 +76,16 @@ def wishes_by(sheet):
     return {name: tuple(wants) for name, wants in sheet[0]}
 
 
+def wanted_homes(sheet):
+    """The set of the homes that each household wants, by its name."""
+    there = homes(sheet)
+    return {name: tuple([home for home in wants if home in there]) for name, wants in sheet[0]}
+
+
 def wants_of(sheet, name, *, idle=False):
     """The set of the homes that this household wants; with idle of all its wishes, also for what is no home."""
     must_be_households(sheet, (name,))
-    wants = wishes_by(sheet)[name]
-    if idle:
-        return wants
-    there = homes(sheet)
-    return tuple([home for home in wants if home in there])
+    return wishes_by(sheet)[name] if idle else wanted_homes(sheet)[name]
 
 
 def wanted_by(sheet, home):

@@ -197,6 +197,11 @@ class Plan:
         return Plan(*parts)
 
 
+def plan_by(held):
+    """The Plan by which each household has the home that it has in this dict; who has its own one does not move."""
+    return Plan.of(_parts_by({name: home for name, home in held.items() if home != name}))
+
+
 def is_plan(sheet, plan):
     """Whether the Plan is a PLAN for the SHEET: of its households, to its empties, each to a home that it wants."""
     wishes = wishes_by(sheet)

@@ -1,6 +1,7 @@
 """Swaps: two households that suit each other exchange their homes; how many can, who surely does, and why no more."""
 
 from crosshomes.data import households, is_set, must_be_households, suited_to
+from crosshomes.pairing import is_reason, most_paired, parts_of
 
 
 def suiting(sheet, *, without=()):
@@ -13,22 +14,7 @@ def suiting(sheet, *, without=()):
 def most_swaps(sheet, *, without=()):
     """How many households move by a best SWAPS."""
     pairs = suiting(sheet, without=without)
-    return 2 * _most_pairs(households(sheet), pairs, {})
-
-
-def _most_pairs(names, pairs, known):
-    """How many of the pairs can be had of these names; known keeps the answers, as the same rest comes often."""
-    if len(names) < 2:
-        return 0
-    if names not in known:
-        first, rest = names[0], names[1:]
-        most = _most_pairs(rest, pairs, known)
-        for other in rest:
-            if (first, other) in pairs:
-                fewer = tuple([name for name in rest if name != other])
-                most = max(most, 1 + _most_pairs(fewer, pairs, known))
-        known[names] = most
-    return known[names]
+    return most_paired(households(sheet), pairs)
 
 
 def _choices(pairs, many):
@@ -66,25 +52,8 @@ def every_swaps(sheet, *, without=()):
 def parts_in(sheet, some, *, odd=None):
     """The ascending list of the parts of the set some; only the odd ones, or the others, if odd is True or False."""
     must_be_households(sheet, some)
-    pairs = suiting(sheet)
-    parts = []
-    rest = list(some)
-    while rest:
-        part = _part_around(pairs, rest[0], rest)
-        parts.append(part)
-        rest = [name for name in rest if name not in part]
+    parts = parts_of(some, suiting(sheet))
     return [part for part in parts if odd is None or odd == (len(part) % 2 == 1)]
-
-
-def _part_around(pairs, first, some):
-    """The set of those of some that hang together with first."""
-    part = []
-    fresh = [first]
-    while fresh:
-        part = [*part, *fresh]
-        near = [name for pair in pairs for name in pair if any([other in fresh for other in pair])]
-        fresh = [name for name in some if name in near and name not in part]
-    return tuple(sorted(part))
 
 
 def kinds(sheet):
@@ -129,6 +98,4 @@ def is_barrier(sheet, thing):
     names = households(sheet)
     if not is_set(thing) or not all([name in names for name in thing]):
         return False
-    others = [name for name in names if name not in thing]
-    many_odd = len(parts_in(sheet, others, odd=True))
-    return many_odd - len(thing) == len(names) - most_swaps(sheet)
+    return is_reason(names, suiting(sheet), names, thing, len(names) - most_swaps(sheet))

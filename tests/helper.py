@@ -4,6 +4,7 @@ import itertools
 import random
 
 from crosshomes.plans import Plan
+from crosshomes.rings import Prices
 
 SIX = (
     (
@@ -34,6 +35,7 @@ def nested(depth):
     return value
 
 
+PRICES = Prices((("a", 0),), (("a", 0),))
 # Values that are no SHEET, no PART and no set of NAMEs, of each kind that a `thing` may have.
 ODD_THINGS = (
     0, 1, -1, 10 ** 30, True, False, None, "", "ann", "Ann", "ab c", [], [[]], [(), ()], [0], (0,), (None,), (True,),
@@ -41,6 +43,8 @@ ODD_THINGS = (
     (Plan(), ()), ((), Plan()), ((Plan(),), ()), ((), (Plan(),)), (Plan(),), ((Plan(), ()),), (("a", Plan()),),
     (("a",), Plan()), ((("a", Plan()),), ()), (("a",), 0), (("a",), None), (("a",), True), (("a",), ("b",)),
     ((["a"],), ()), ((0,), ()), (0, ()), ((), 0), ((), None), ({}.get("a"), "a"),
+    PRICES, Prices((), ()), (PRICES,), [PRICES], (PRICES, ()), ((), PRICES), (PRICES, ""), ((PRICES,), ()), ((PRICES, "b"), ""),
+    ((("a", PRICES),), ()), ((("a", (PRICES,)),), ()), (("a",), PRICES), (("a", PRICES), ""), ("a", PRICES),
 )
 
 
@@ -148,3 +152,68 @@ def plain_parts_of(moves):
             parts.append((tuple(names), "" if last == name else last))
             seen.update(names)
     return parts
+
+
+def shuffled(chance, names):
+    return tuple(chance.sample(list(names), len(names)))
+
+
+def plain_swaps(sheet):
+    """All SWAPS, the best ones and all others, as sets of those who move."""
+    pairs = plain_pairs(sheet)
+    found = {frozenset()}
+    for many in range(1, len(sheet[0]) // 2 + 1):
+        for swaps in itertools.combinations(pairs, many):
+            movers = frozenset(name for pair in swaps for name in pair)
+            if len(movers) == 2 * many:
+                found.add(movers)
+    return found
+
+
+def plain_most(moved, some):
+    """How many of some move by one of the SWAPS in moved, at the most."""
+    return max(len(movers & set(some)) for movers in moved)
+
+
+def plain_kept(moved, order):
+    """The set of those who are kept, going down the order."""
+    found = set()
+    for name in order:
+        if any(found | {name} <= movers for movers in moved):
+            found.add(name)
+    return tuple(sorted(found))
+
+
+def plain_homes(sheet):
+    """The homes that each household may take: its own one first, then those that it wants and that are there."""
+    there = {*dict(sheet[0]), *sheet[1]}
+    return {name: [name, *[home for home in wants if home in there]] for name, wants in sheet[0]}
+
+
+def plain_plans(sheet, rows=True):
+    """All PLANs, as dicts of moves: all ways to give each household a home that it wants or its own."""
+    choices = plain_homes(sheet)
+    found = []
+    for homes in itertools.product(*choices.values()):
+        if len(set(homes)) == len(homes):
+            moves = {name: home for name, home in zip(choices, homes) if name != home}
+            if rows or not set(moves.values()) & set(sheet[1]):
+                found.append(moves)
+    return found
+
+
+def plain_part_names(moves):
+    """The lists of the names of the PARTs of moves."""
+    return [names for names, _ in plain_parts_of(moves)]
+
+
+def plain_left(moves, gone):
+    """The moves that are left if these withdraw: who stays keeps its home, so nobody can move there."""
+    left = {name: home for name, home in moves.items() if name not in gone}
+    while any(home in moves and home not in left for home in left.values()):
+        left = {name: home for name, home in left.items() if home not in moves or home in left}
+    return left
+
+
+def moves_of(plan):
+    return {name: plan(name) for name in plan.movers}

@@ -2,7 +2,7 @@
 
 import unittest
 
-from crosshomes import data, errors, plans, swaps
+from crosshomes import changes, data, errors, orders, plans, rings, swaps, withdrawals
 
 SHEETS = """
 >>> six = ((("ann", ("bob",)), ("bob", ("ann", "cat")), ("cat", ("bob", "dan", "eve")), ("dan", ("cat", "eve")), ("eve", ("cat", "dan")), ("fay", ("cat", "new"))), ("new",))
@@ -49,6 +49,65 @@ SWAPS = """
 (((), (), ('a', 'b', 'c', 'd')), [('a', 'b'), ('c', 'd')], [('a', 'c'), ('b', 'c')], [], [()])
 """
 
+ORDERS = """
+>>> can_move(six, ("ann", "eve")), most_of(six, ("ann", "cat", "dan", "eve")), is_why_not(six, ("ann", "cat", "dan", "eve"), ("bob",)), is_why_not(six, ("ann", "cat", "dan", "eve"), ())
+(True, 3, True, False)
+>>> line = ("fay", "dan", "ann", "cat", "eve", "bob")
+>>> kept(six, line), kept(six, line, first=("eve",)), pushed_out(six, line, "eve"), pushed_out(six, line, "fay"), list(walk(six, line))[:3]
+(('ann', 'bob', 'cat', 'dan'), ('ann', 'bob', 'dan', 'eve'), 'cat', None, [('fay', False), ('dan', True), ('ann', True)])
+>>> groups = (("ann", "cat", "dan", "eve"), ("bob", "fay"))
+>>> by_classes(six, groups), sure_in(six, groups), maybe_in(six, groups), more_from(six, ("cat", "dan", "eve"), ("ann", "bob")), worth(six, (5, 1, 2, 2, 3, 9))
+([3, 1], ('bob',), ('ann', 'bob', 'cat', 'dan', 'eve'), 'bob', 11)
+>>> order = Order(line)
+>>> order["eve"] = 0
+>>> order.line, order["dan"], order.ahead(("eve",), ("ann", "dan")), kept(six, order)
+(('eve', 'fay', 'dan', 'ann', 'cat', 'bob'), 2, True, ('ann', 'bob', 'dan', 'eve'))
+"""
+
+CHANGES = """
+>>> gain_by_household(six, ("ann",)), gain_by_household(six, ("bob",)), gain_by_pair(six, "ann", "cat"), helping_pairs(six), fewest_pairs(six)
+(2, 0, 0, [('ann', 'fay'), ('cat', 'fay'), ('dan', 'fay'), ('eve', 'fay')], 1)
+>>> loss_by_household(six, "bob"), loss_by_household(six, "eve"), loss_by_pair(six, "ann", "bob"), can_leave(six, ("ann", "fay")), can_leave(six, ("cat", "dan")), most_leaving(six, ("cat", "dan", "eve"))
+(2, 0, 0, True, False, 1)
+>>> chain = ((("a", ("b",)), ("b", ("c",)), ("c", ())), ())
+>>> gain_by_wish(chain, "c", "a"), gain_by_empty(chain, ("c",)), gain_by_empty(chain, ("a",)), loss_by_empty(six, "new"), loss_by_wish(six, "fay", "new")
+(3, 3, 1, 1, 1)
+"""
+
+RINGS = """
+>>> most_any(six), most_any(six, rows=False), worth_of(six, "new"), [most_rings(six, longest=many) for many in (2, 3, 4)]
+(6, 5, 1, [4, 5, 5])
+>>> five = (six[0], ())
+>>> list(gains(six)), list(gains(five)), crowd(five), surely_moves(five), with_fewest(five, "fay"), with_fewest(six, "fay"), with_part(six, "fay")
+([], [1], ('ann', 'cat', 'dan', 'eve', 'fay'), ('ann', 'bob', 'cat', 'dan', 'eve'), None, 1, (('fay',), 'new'))
+>>> move_together(five, ("ann", "fay")), why_stuck(five, ("fay",)), surely_take(five)
+(False, ('ann', 'bob', 'cat', 'dan', 'eve', 'fay'), [('ann', 'bob'), ('bob', 'ann')])
+>>> hub = ((("a", ()), ("b", ("a",)), ("c", ("a",))), ())
+>>> most_any(hub), list(gains(hub)), crowd(hub), prices_of(hub).total
+(0, [2, 1], ('a', 'b', 'c'), 0)
+>>> fork = ((("a", ("b",)), ("b", ("a", "c")), ("c", ("d",)), ("d", ("b",))), ())
+>>> most_any(fork), kept_any(fork, ("a", "b", "c", "d")), kept_any(fork, ("c", "a", "b", "d")), may_move(fork)
+(3, ('a', 'b'), ('b', 'c', 'd'), ('b', 'c', 'd'))
+>>> lone = ((("a", ("b",)), ("b", ())), ())
+>>> low = Prices((("a", 0), ("b", -1)), (("a", 0), ("b", 1)))
+>>> are_prices(lone, low), low.total, low["b"], low("b"), len(low), are_prices(lone, Prices((("a", 0), ("b", 0)), (("a", 0), ("b", 0))))
+(True, 0, -1, 1, 4, False)
+"""
+
+WITHDRAWALS = """
+>>> full = Plan((("ann", "bob"), ""), (("cat", "dan", "eve"), ""), (("fay",), "new"))
+>>> [safe_for(full, many) for many in (0, 1, 2, 3, 9)], worst_gone(full, 2), weak_ones(full)
+([6, 3, 1, 0, 0], ('ann', 'cat'), ('cat', 'dan', 'eve'))
+>>> rest_sheet(six, full, gone=("bob",)), most_repaired(six, full, gone=("bob",)), most_repaired(six, full, gone=("cat",))
+(((('ann', ()),), ('fay',)), 4, 5)
+>>> middle = Plan((("bob", "cat"), ""))
+>>> most_repaired(six, middle, gone=()), fewest_told(six, middle, gone=()), fewest_told(six, full, gone=("cat",))
+(5, 6, 1)
+>>> both = ((("a", ("b",)), ("b", ("a",))), ())
+>>> safest(both, 1), are_told_prices(both, Plan(), ((("a", 3), ("b", 3)), (("a", 0), ("b", 0))), gone=())
+(0, True)
+"""
+
 
 def steps(text):
     """The pairs of a statement, and the line that is printed behind it, None if there is none."""
@@ -61,7 +120,7 @@ def steps(text):
 
 def names_to_use():
     found = {}
-    for module in (data, errors, plans, swaps):
+    for module in (data, errors, plans, swaps, orders, changes, rings, withdrawals):
         found.update({name: value for name, value in vars(module).items() if not name.startswith("_")})
     return found
 
@@ -97,6 +156,18 @@ class Examples(unittest.TestCase):
 
     def test_swaps(self):
         self.assertEqual(self.check(SHEETS, SWAPS), 4 + 5)
+
+    def test_orders(self):
+        self.assertEqual(self.check(SHEETS, ORDERS), 4 + 4)
+
+    def test_changes(self):
+        self.assertEqual(self.check(SHEETS, CHANGES), 4 + 3)
+
+    def test_rings(self):
+        self.assertEqual(self.check(SHEETS, RINGS), 4 + 6)
+
+    def test_withdrawals(self):
+        self.assertEqual(self.check(SHEETS, WITHDRAWALS), 4 + 4)
 
 
 if __name__ == "__main__":

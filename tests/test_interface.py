@@ -7,9 +7,11 @@ import itertools
 import types
 import unittest
 
-from crosshomes import data, errors, plans, swaps
+from crosshomes import changes, data, errors, orders, plans, rings, swaps, withdrawals
+from crosshomes.orders import Order
 from crosshomes.plans import Plan
-from tests.helper import CROWD, NOBODY, ODD_THINGS, SIX, lists, nested, raised
+from crosshomes.rings import Prices
+from tests.helper import CROWD, ODD_THINGS, PRICES, SIX, lists, nested, raised
 
 SIGNATURES = {
     data: """
@@ -42,12 +44,98 @@ SIGNATURES = {
         idle_swaps(sheet)
         is_barrier(sheet, thing)
         """,
+    orders: """
+        can_move(sheet, some)
+        most_of(sheet, some)
+        why_not(sheet, some)
+        is_why_not(sheet, some, thing)
+        kept(sheet, order, *, first=())
+        walk(sheet, order)
+        why_left(sheet, order, name)
+        pushed_out(sheet, order, name)
+        by_classes(sheet, classes)
+        sure_in(sheet, classes)
+        maybe_in(sheet, classes)
+        more_from(sheet, some, other)
+        worth(sheet, worths)
+        """,
+    changes: """
+        gain_by_household(sheet, suits)
+        gain_by_pair(sheet, one, other)
+        helping_pairs(sheet)
+        fewest_pairs(sheet)
+        loss_by_household(sheet, name)
+        loss_by_pair(sheet, one, other)
+        can_leave(sheet, some)
+        most_leaving(sheet, some)
+        gain_by_wish(sheet, name, home)
+        loss_by_wish(sheet, name, home)
+        gain_by_empty(sheet, wanting)
+        loss_by_empty(sheet, empty)
+        cap_by_wish(sheet, prices, name, home)
+        cap_by_empty(sheet, prices, wanting)
+        """,
+    rings: """
+        most_any(sheet, *, rows=True)
+        any_plan(sheet, *, rows=True)
+        prices_of(sheet)
+        are_prices(sheet, thing)
+        gains(sheet)
+        fewest_extras(sheet)
+        crowd(sheet)
+        worth_of(sheet, empty)
+        surely_moves(sheet)
+        may_move(sheet)
+        surely_take(sheet)
+        may_take(sheet)
+        move_together(sheet, names)
+        why_stuck(sheet, names)
+        kept_any(sheet, order)
+        with_fewest(sheet, name)
+        with_part(sheet, name)
+        most_rings(sheet, *, longest=3)
+        rings_plan(sheet, *, longest=3)
+        """,
+    withdrawals: """
+        safe_for(plan, many)
+        worst_gone(plan, many)
+        weak_ones(plan)
+        safest(sheet, many)
+        safest_plan(sheet, many)
+        rest_sheet(sheet, plan, *, gone)
+        most_repaired(sheet, plan, *, gone)
+        repair(sheet, plan, *, gone)
+        fewest_told(sheet, plan, *, gone)
+        calmest(sheet, plan, *, gone)
+        told_prices(sheet, plan, *, gone)
+        are_told_prices(sheet, plan, thing, *, gone)
+        """,
 }
-PLAN_METHODS = (
-    "of", "ring", "row", "parts", "movers", "ends", "left", "text", "within", "__init__", "__call__", "__contains__",
-    "__len__", "__bool__", "__eq__", "__lt__", "__le__", "__gt__", "__ge__", "__and__", "__or__", "__add__", "__sub__",
+# Of each class its file, how it is made, its methods (those that Python calls by signs, too) and its properties.
+CLASSES = (
+    (
+        Plan, plans, "(*parts)",
+        ("of", "ring", "row", "within", "__init__", "__call__", "__contains__", "__len__", "__bool__", "__eq__", "__lt__", "__le__",
+         "__gt__", "__ge__", "__and__", "__or__", "__add__", "__sub__"),
+        ("parts", "movers", "ends", "left", "text"),
+    ),
+    (
+        Order, orders, "(names)",
+        ("ahead", "__init__", "__getitem__", "__setitem__", "__len__", "__contains__", "__eq__"),
+        ("line",),
+    ),
+    (
+        Prices, rings, "(households, homes)",
+        ("__init__", "__getitem__", "__call__", "__len__", "__eq__"),
+        ("total", "pairs"),
+    ),
 )
 PLAN = Plan((("ann", "bob"), ""), (("cat", "dan", "eve"), ""), (("fay",), "new"))
+LINE = ("fay", "dan", "ann", "cat", "eve", "bob")
+GROUPS = (("ann", "cat", "dan", "eve"), (), ("bob", "fay"))
+FIVE = data.without(SIX, ("fay",))
+SIX_PRICES = rings.prices_of(SIX)
+TOLD = withdrawals.told_prices(SIX, PLAN, gone=("cat", "fay"))
 # Each function with its arguments by their names, in order, and the word from which on they go by name alone.
 CALLS = (
     (data.is_sheet, {"thing": SIX}, None),
@@ -83,14 +171,99 @@ CALLS = (
     (swaps.sure_swaps, {"sheet": data.without(SIX, ("eve",))}, None),
     (swaps.idle_swaps, {"sheet": data.without(SIX, ("eve",))}, None),
     (swaps.is_barrier, {"sheet": SIX, "thing": ("bob",)}, None),
+    (orders.can_move, {"sheet": SIX, "some": ("ann", "eve")}, None),
+    (orders.most_of, {"sheet": SIX, "some": ("ann", "cat", "dan", "eve")}, None),
+    (orders.why_not, {"sheet": SIX, "some": ("ann", "cat", "dan", "eve")}, None),
+    (orders.is_why_not, {"sheet": SIX, "some": ("ann", "cat", "dan", "eve"), "thing": ("bob",)}, None),
+    (orders.kept, {"sheet": SIX, "order": LINE, "first": ("eve", "fay")}, "first"),
+    (orders.kept, {"sheet": SIX, "order": LINE}, None),
+    (orders.walk, {"sheet": SIX, "order": LINE}, None),
+    (orders.why_left, {"sheet": SIX, "order": LINE, "name": "eve"}, None),
+    (orders.pushed_out, {"sheet": SIX, "order": LINE, "name": "eve"}, None),
+    (orders.by_classes, {"sheet": SIX, "classes": GROUPS}, None),
+    (orders.sure_in, {"sheet": SIX, "classes": GROUPS}, None),
+    (orders.maybe_in, {"sheet": SIX, "classes": GROUPS}, None),
+    (orders.more_from, {"sheet": SIX, "some": ("cat", "dan", "eve"), "other": ("ann", "bob")}, None),
+    (orders.worth, {"sheet": SIX, "worths": (5, 1, 2, 2, 3, 9)}, None),
+    (Order, {"names": LINE}, None),
+    (Order(LINE).ahead, {"one": ("cat", "fay"), "other": ("ann",)}, None),
+    (changes.gain_by_household, {"sheet": SIX, "suits": ("ann", "bob")}, None),
+    (changes.gain_by_pair, {"sheet": SIX, "one": "fay", "other": "ann"}, None),
+    (changes.helping_pairs, {"sheet": SIX}, None),
+    (changes.fewest_pairs, {"sheet": SIX}, None),
+    (changes.loss_by_household, {"sheet": SIX, "name": "bob"}, None),
+    (changes.loss_by_pair, {"sheet": FIVE, "one": "bob", "other": "ann"}, None),
+    (changes.can_leave, {"sheet": SIX, "some": ("ann", "fay")}, None),
+    (changes.most_leaving, {"sheet": SIX, "some": ("cat", "dan", "eve")}, None),
+    (changes.gain_by_wish, {"sheet": FIVE, "name": "ann", "home": "new"}, None),
+    (changes.loss_by_wish, {"sheet": SIX, "name": "fay", "home": "new"}, None),
+    (changes.gain_by_empty, {"sheet": (SIX[0], ()), "wanting": ("ann", "fay")}, None),
+    (changes.loss_by_empty, {"sheet": SIX, "empty": "new"}, None),
+    (changes.cap_by_wish, {"sheet": SIX, "prices": SIX_PRICES, "name": "fay", "home": "ann"}, None),
+    (changes.cap_by_empty, {"sheet": SIX, "prices": SIX_PRICES, "wanting": ("ann", "fay")}, None),
+    (rings.most_any, {"sheet": SIX, "rows": False}, "rows"),
+    (rings.most_any, {"sheet": SIX}, None),
+    (rings.any_plan, {"sheet": SIX, "rows": False}, "rows"),
+    (rings.any_plan, {"sheet": SIX}, None),
+    (rings.prices_of, {"sheet": SIX}, None),
+    (rings.are_prices, {"sheet": SIX, "thing": SIX_PRICES}, None),
+    (rings.gains, {"sheet": (SIX[0], ())}, None),
+    (rings.fewest_extras, {"sheet": (SIX[0], ())}, None),
+    (rings.crowd, {"sheet": (SIX[0], ())}, None),
+    (rings.worth_of, {"sheet": SIX, "empty": "new"}, None),
+    (rings.surely_moves, {"sheet": SIX}, None),
+    (rings.may_move, {"sheet": SIX}, None),
+    (rings.surely_take, {"sheet": SIX}, None),
+    (rings.may_take, {"sheet": SIX}, None),
+    (rings.move_together, {"sheet": SIX, "names": ("ann", "fay")}, None),
+    (rings.why_stuck, {"sheet": (SIX[0], ()), "names": ("fay",)}, None),
+    (rings.kept_any, {"sheet": (SIX[0], ()), "order": LINE}, None),
+    (rings.with_fewest, {"sheet": SIX, "name": "dan"}, None),
+    (rings.with_part, {"sheet": SIX, "name": "dan"}, None),
+    (rings.most_rings, {"sheet": SIX, "longest": 2}, "longest"),
+    (rings.most_rings, {"sheet": SIX}, None),
+    (rings.rings_plan, {"sheet": SIX, "longest": 2}, "longest"),
+    (rings.rings_plan, {"sheet": SIX}, None),
+    (Prices, {"households": (("ann", 1), ("bob", -2)), "homes": (("ann", 0),)}, None),
+    (SIX_PRICES, {"name": "new"}, None),
+    (withdrawals.safe_for, {"plan": PLAN, "many": 1}, None),
+    (withdrawals.worst_gone, {"plan": PLAN, "many": 2}, None),
+    (withdrawals.weak_ones, {"plan": PLAN}, None),
+    (withdrawals.safest, {"sheet": FIVE, "many": 1}, None),
+    (withdrawals.safest_plan, {"sheet": FIVE, "many": 1}, None),
+    (withdrawals.rest_sheet, {"sheet": SIX, "plan": PLAN, "gone": ("bob", "cat")}, "gone"),
+    (withdrawals.most_repaired, {"sheet": SIX, "plan": PLAN, "gone": ("bob", "cat")}, "gone"),
+    (withdrawals.repair, {"sheet": SIX, "plan": PLAN, "gone": ("bob", "cat")}, "gone"),
+    (withdrawals.fewest_told, {"sheet": SIX, "plan": PLAN, "gone": ("bob", "cat")}, "gone"),
+    (withdrawals.calmest, {"sheet": SIX, "plan": PLAN, "gone": ("bob", "cat")}, "gone"),
+    (withdrawals.told_prices, {"sheet": SIX, "plan": PLAN, "gone": ("bob", "cat")}, "gone"),
+    (withdrawals.are_told_prices, {"sheet": SIX, "plan": PLAN, "thing": TOLD, "gone": ("cat", "fay")}, "gone"),
 )
+# What these return: lists, sets and other tuples, and objects; all others tell a number, yes or no, a name or None.
+LISTS = {
+    "suiting", "parts_in", "sure_swaps", "idle_swaps", "by_classes", "helping_pairs", "surely_take", "may_take",
+}
 
 
 def value_of(found):
     """What a call returned, in a form that tells tuples from lists and True from 1."""
     if isinstance(found, types.GeneratorType):
         return repr(list(found))
-    return repr(found.parts if isinstance(found, Plan) else found)
+    if isinstance(found, (Plan, Order, Prices)):
+        return repr((found.__class__.__name__, held_by(found)))
+    return repr(found)
+
+
+def held_by(thing):
+    """What an object of the package holds."""
+    if isinstance(thing, Plan):
+        return thing.parts
+    return thing.line if isinstance(thing, Order) else thing.pairs
+
+
+def shown(value):
+    """A value of arguments with what the objects among them hold, to see whether it changes."""
+    return repr([held_by(one) if isinstance(one, (Plan, Order, Prices)) else one for one in value.values()])
 
 
 def by_position(call, given, star):
@@ -120,19 +293,23 @@ class Interface(unittest.TestCase):
             tree = ast.parse(inspect.getsource(module))
             defined = {node.name for node in tree.body if isinstance(node, (ast.FunctionDef, ast.ClassDef))}
             self.assertLessEqual({line.strip().partition("(")[0] for line in text.strip().split("\n")}, defined)
-        self.assertEqual(Plan.__module__, "crosshomes.plans")
+
+    def test_classes(self):
+        for made, module, words, methods, properties in CLASSES:
+            self.assertEqual((made.__module__, str(inspect.signature(made))), (module.__name__, words))
+            tree = ast.parse(inspect.getsource(module))
+            self.assertIn(made.__name__, [node.name for node in tree.body if isinstance(node, ast.ClassDef)])
+            for word in (*methods, *properties):
+                with self.subTest(made=made, word=word):
+                    self.assertIn(word, vars(made))
+            for word in properties:
+                self.assertIsInstance(vars(made)[word], property)
+                self.assertIsNone(vars(made)[word].fset)
 
     def test_the_class_plan(self):
-        for word in PLAN_METHODS:
-            with self.subTest(word=word):
-                self.assertIn(word, vars(Plan))
         self.assertIsInstance(vars(Plan)["of"], classmethod)
         self.assertIsInstance(vars(Plan)["ring"], staticmethod)
         self.assertIsInstance(vars(Plan)["row"], staticmethod)
-        for word in ("parts", "movers", "ends", "left", "text"):
-            self.assertIsInstance(vars(Plan)[word], property)
-            self.assertIsNone(vars(Plan)[word].fset)
-        self.assertEqual(str(inspect.signature(Plan)), "(*parts)")
         self.assertEqual(Plan.row(*["x", "b", "a"]), (("b", "a"), "x"))
         self.assertEqual(Plan.ring(*["b", "a"]), (("a", "b"), ""))
 
@@ -142,6 +319,16 @@ class Interface(unittest.TestCase):
             self.assertIs(found.__class__, tuple)
         for found in (PLAN & PLAN, PLAN | PLAN, PLAN - "ann", PLAN + Plan(), Plan.of([]), plans.left_of(PLAN, [])):
             self.assertIs(found.__class__, Plan)
+
+    def test_kinds_of_values_of_orders_and_prices(self):
+        for found in (Order(list(LINE)).line, SIX_PRICES.pairs, *SIX_PRICES.pairs, TOLD, *TOLD):
+            self.assertIs(found.__class__, tuple)
+        for found in (Order(LINE)["ann"], SIX_PRICES["ann"], SIX_PRICES("new"), SIX_PRICES.total, len(SIX_PRICES)):
+            self.assertIs(found.__class__, int)
+        plan_calls = {"any_plan", "rings_plan", "safest_plan", "repair", "calmest"}
+        for call, given, _ in CALLS:
+            if isinstance(call, types.FunctionType) and call.__name__ in plan_calls:
+                self.assertIs(call(**given).__class__, Plan)
 
     def test_calls_cover_the_interface(self):
         called = {call.__name__ for call, _, _ in CALLS if isinstance(call, types.FunctionType)}
@@ -175,11 +362,9 @@ class GeneralRules(unittest.TestCase):
         for call, given, _ in CALLS:
             for used in (given, as_lists(given)):
                 with self.subTest(given=used):
-                    before = copy.deepcopy(used)
+                    before = shown(copy.deepcopy(used))
                     value_of(call(**used))
-                    self.assertEqual(used, before)
-                    self.assertEqual(repr(lists([one for one in used.values() if not isinstance(one, Plan)])),
-                                     repr(lists([one for one in before.values() if not isinstance(one, Plan)])))
+                    self.assertEqual(shown(used), before)
 
     def test_the_same_call_again(self):
         for call, given, _ in CALLS:
@@ -187,21 +372,18 @@ class GeneralRules(unittest.TestCase):
                 self.assertEqual(value_of(call(**given)), value_of(call(**given)))
 
     def test_lists_that_are_returned_are_new(self):
-        found_lists = 0
         for call, given, _ in CALLS:
             found = call(**given)
             if isinstance(found, list):
                 with self.subTest(given=given):
-                    found_lists += 1
                     kept = list(found)
                     found.append("more")
                     self.assertEqual(call(**given), kept)
                     self.assertIsNot(call(**given), call(**given))
-        self.assertEqual(found_lists, 6)
 
-    def test_only_suiting_parts_and_pairs_are_lists(self):
+    def test_which_are_lists(self):
         lists_of = {call.__name__ for call, given, _ in CALLS if isinstance(call(**given), list)}
-        self.assertEqual(lists_of, {"suiting", "parts_in", "sure_swaps", "idle_swaps"})
+        self.assertEqual(lists_of, LISTS)
 
     def test_returned_values_may_be_passed_in_again(self):
         sheet = data.opened(data.joined_by(data.without(SIX, ("fay",)), "gus", ("new",)), "old")
@@ -217,23 +399,33 @@ class GeneralRules(unittest.TestCase):
             self.assertTrue(plans.is_plan(sheet, Plan.of([Plan.ring(*pair) for pair in chosen])))
 
     def test_answers_of_yes_and_no(self):
-        asked = (data.is_sheet, plans.is_part, plans.is_plan, swaps.is_barrier, data.suits, PLAN.within)
+        asked = (
+            data.is_sheet, plans.is_part, plans.is_plan, swaps.is_barrier, data.suits, PLAN.within, orders.can_move,
+            orders.is_why_not, changes.can_leave, rings.are_prices, rings.move_together, withdrawals.are_told_prices,
+        )
         for call, given, _ in CALLS:
             if call in asked:
                 with self.subTest(given=given):
                     self.assertIs(call(**given), True)
 
     def test_things_of_all_kinds(self):
-        many = (*ODD_THINGS, nested(12), lists(nested(12)), "a" * 1000, -(10 ** 60), [Plan()], ((Plan(), Plan()), Plan()))
+        many = (
+            *ODD_THINGS, nested(12), lists(nested(12)), "a" * 1000, -(10 ** 60), [Plan()], ((Plan(), Plan()), Plan()),
+            [PRICES], ((PRICES, PRICES), PRICES), (Plan(), PRICES), SIX_PRICES.pairs,
+        )
         for thing in many:
             with self.subTest(thing=thing):
                 self.assertIs(data.is_sheet(thing), False)
                 self.assertIs(plans.is_part(thing), False)
                 self.assertIs(swaps.is_barrier(SIX, thing), False)
+                self.assertIs(orders.is_why_not(SIX, ("ann", "cat", "dan", "eve"), thing), False)
+                self.assertIs(rings.are_prices(SIX, thing), False)
+                self.assertIs(withdrawals.are_told_prices(SIX, PLAN, thing, gone=()), False)
+                self.assertIs(thing in Order(("bob", "cat")), False)
 
     def test_things_within_things(self):
         # None of these is a tuple of NAMEs, a tuple of rows or an end, so that no frame makes it right.
-        for inner in (0, 1, True, None, [], ["a"], [()], ("A",), (0,), (("a",),), nested(11), Plan(), (Plan(),)):
+        for inner in (0, 1, True, None, [], ["a"], [()], ("A",), (0,), (("a",),), nested(11), Plan(), (Plan(),), PRICES, (PRICES,)):
             for thing in ((inner, ()), ((), inner), ((("a", inner),), ()), (((inner, ()),), ()), ((("a", (inner,)),), ())):
                 with self.subTest(thing=thing):
                     self.assertIs(data.is_sheet(thing), False)
@@ -243,6 +435,11 @@ class GeneralRules(unittest.TestCase):
             for thing in (inner, (inner,), ("ann", inner), (inner, "ann")):
                 with self.subTest(thing=thing):
                     self.assertIs(swaps.is_barrier(SIX, thing), False)
+                    self.assertIs(orders.is_why_not(SIX, ("ann", "cat", "dan", "eve"), thing), False)
+            names, there = TOLD
+            for thing in ((inner, there), (names, inner), ((inner, *names[1:]), there), (names, (inner, *there[1:]))):
+                with self.subTest(thing=thing):
+                    self.assertIs(withdrawals.are_told_prices(SIX, PLAN, thing, gone=("cat", "fay")), False)
 
     def test_bounds(self):
         """8 households and 3 empty homes, and somewhat beyond."""
@@ -254,12 +451,40 @@ class GeneralRules(unittest.TestCase):
         self.assertEqual(swaps.most_swaps(beyond), 10)
         self.assertEqual(swaps.kinds(beyond), ((), (), tuple(names)))
         self.assertEqual(swaps.most_swaps(data.without(beyond, ("a",))), 8)
+        self.assertEqual(orders.kept(beyond, names[::-1]), tuple(names))
+        self.assertEqual(orders.why_not(data.without(beyond, ("a",)), tuple(names[1:])), ())
+        self.assertEqual((rings.most_any(beyond), rings.most_any(beyond, rows=False), rings.most_rings(beyond)), (10, 10, 10))
+        self.assertEqual(rings.crowd((tuple((name, ()) for name in names), ())), tuple(names))
+        self.assertEqual(withdrawals.safest(data.without(beyond, ("a", "b", "c", "d")), 2), 2)
 
     def test_errors_leave_objects_unchanged(self):
         plan = Plan(*PLAN.parts)
         for call in (lambda: plan + PLAN, lambda: plan | Plan((("ann",), "x"))):
             self.assertEqual(raised(call)[0], errors.Clash)
             self.assertEqual(plan.parts, PLAN.parts)
+
+    def test_everything_at_the_bounds(self):
+        """Everybody wants everything: 8 households and 3 empty homes; of 5 and 2 where no more are asked for."""
+        eight, order = data.households(CROWD), tuple("hgfedcba")
+        small = (tuple((name, tuple(home for home in wants if home in "abcdexy")) for name, wants in CROWD[0][:5]), ("x", "y"))
+        plan = rings.any_plan(CROWD)
+        values = {
+            "sheet": CROWD, "some": eight, "other": "h", "thing": eight, "order": order, "name": "a", "classes": (eight[:3], (), eight[3:]),
+            "worths": tuple(range(8)), "suits": eight, "one": "a", "home": "x", "wanting": eight, "empty": "y", "plan": plan,
+            "prices": rings.prices_of(CROWD), "names": eight, "many": 3, "gone": ("b", "g"), "without": ("c",), "wants": ("a",), "odd": True,
+            "first": ("c", "a"), "rows": False, "longest": 8, "idle": True,
+        }
+        for call, given, _ in CALLS:
+            if isinstance(call, types.FunctionType):
+                used = {word: values[word] for word in given}
+                if call in (data.joined_by, data.opened):
+                    used.update({"name": "new"} if "name" in used else {"home": "new"})
+                if call in (withdrawals.safest, withdrawals.safest_plan):
+                    used["sheet"] = small
+                if call == orders.more_from:
+                    used.update({"some": eight[:3], "other": eight})
+                with self.subTest(call=call.__name__):
+                    self.assertEqual(value_of(call(**used)), value_of(call(**used)))
 
     def test_errors_with_lists_and_names(self):
         six = lists(SIX)
