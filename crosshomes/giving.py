@@ -38,7 +38,7 @@ def _steps(values, held, places):
     for name, home in held.items():
         steps.extend([(home, other, number - values[name][home]) for other, number in values[name].items()])
     taken = list(held.values())
-    behind = [(home, "", 0) for home in places if home != "" and home not in taken]
+    behind = [(home, "", 0) for home in places if home not in taken]
     return [*steps, *behind, *[("", home, 0) for home in places]]
 
 
@@ -74,7 +74,7 @@ def _ring_ahead(ahead, last):
 
 
 def best_given(values):
-    """The home that each household has, if the sum is the greatest, and a number for each home.
+    """The home that each household has if the sum is the greatest, and a number for each home, and for "".
 
     A number is from 0, and 0 if nobody has the home. Less these numbers, no home is worth more to a household than the
     one that it has: so no sum is greater.
@@ -86,7 +86,7 @@ def best_given(values):
         after = {home: other for home, other in zip(ring, [*ring[1:], ring[0]])}
         held = {name: after.get(home, home) for name, home in held.items()}
         sums, ring = _grown(_steps(values, held, places), places)
-    return held, {home: sums[home] - sums[""] for home in places}
+    return held, sums
 
 
 def greatest_value(values):

@@ -121,10 +121,8 @@ def why_left(sheet, order, name):
 
 def pushed_out(sheet, order, name):
     """Who is kept by the order and no longer if name is put first; None if name is kept, or suits nobody."""
-    line = line_of(order)
-    must_be_households(sheet, [*line, name])
-    still = kept(sheet, line, first=(name,))
-    out = [other for other in kept(sheet, line) if other not in still]
+    still = kept(sheet, order, first=(name,))
+    out = [other for other in kept(sheet, order) if other not in still]
     return out[0] if out else None
 
 

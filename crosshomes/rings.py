@@ -120,15 +120,14 @@ def worth_of(sheet, empty):
 
 
 def _homes_by_best(sheet):
-    """For each household the ascending list of the homes that it has by some PLAN by which most_any move."""
+    """For each household the list of the homes that it has by some PLAN by which most_any move, its own one ahead."""
     values = values_of(sheet)
     most = greatest_value(values)
-    # More than all can be worth together: a household that can have a home that is worth so much more has it.
-    more = len(values) + 1
     found = {}
     for name in values:
-        raised = {home: with_value(values, name, home, number + more) for home, number in values[name].items()}
-        found[name] = [home for home in sorted(list(raised)) if greatest_value(raised[home]) == most + more]
+        # If a home is worth one more, the greatest sum grows only if it is one of such a PLAN.
+        raised = {home: with_value(values, name, home, number + 1) for home, number in values[name].items()}
+        found[name] = [home for home in raised if greatest_value(raised[home]) > most]
     return found
 
 

@@ -8,9 +8,9 @@ from crosshomes.rings import any_plan, most_any
 
 
 def _enders(part):
-    """The names of the PART such that nobody of it moves if one of them withdraws, ascending."""
+    """The names of the PART such that nobody of it moves if one of them withdraws, the least one first."""
     names, end = part
-    return sorted(names) if end == "" else [names[-1]]
+    return names if end == "" else names[-1:]
 
 
 def safe_for(plan, many):
@@ -34,12 +34,13 @@ def weak_ones(plan):
 def _safest(sheet, many):
     """The greatest safe_for of all PLANs, and the PARTs of such a PLAN.
 
-    The many longest PARTs have no more names than many * limit and the names of all PARTs beyond the limit, and just so
-    many for some limit. So the best sum of the names of PARTs within a limit, less many * limit, is looked for.
+    Whatever the limit, the many longest PARTs of a PLAN have at most many * limit names, and those that any PARTs have
+    beyond the limit; for a fitting limit just so many. So what is looked for is the limit, and the PARTs, with the
+    greatest number of names within the limit, less many * limit.
     """
     parts = [*rings_in(sheet, len(sheet[0])), *rows_in(sheet)]
     best = 0, ()
-    for limit in range(1, len(sheet[0]) + 1):
+    for limit in range(len(sheet[0]) + 1):
         within, chosen = best_packed([(min(limit, len(names)), (names, end)) for names, end in parts])
         if within - many * limit > best[0]:
             best = within - many * limit, chosen
@@ -69,9 +70,9 @@ def rest_sheet(sheet, plan, *, gone):
     taken = [end for names, end in whole]
     left = [names[0] for names, end in whole if end != ""]
     empties = tuple(sorted([*[home for home in sheet[1] if home not in taken], *left]))
-    rows = tuple([(name, tuple(wants)) for name, wants in sheet[0] if name not in settled])
+    rows = [(name, wishes) for name, wishes in sheet[0] if name not in settled]
     wants = wanted_homes((rows, empties))
-    return tuple([(name, wants[name]) for name in wants]), empties
+    return tuple(wants.items()), empties
 
 
 def most_repaired(sheet, plan, *, gone):

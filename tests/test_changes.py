@@ -179,6 +179,10 @@ class Wrong(unittest.TestCase):
         self.check(NoHome, {"home": "ann"}, lambda: gain_by_wish(sheet, "ann", "ann"), lambda: loss_by_wish(sheet, "ann", "ann"))
         self.check(NoHome, {"home": "bob"}, lambda: loss_by_empty(sheet, "bob"), lambda: gain_by_wish(sheet, "bob", "bob"))
         self.assertEqual(cap_by_wish(sheet, prices, "ann", "ann"), 1)
+        # What the SHEET has is asked for, not what the Prices have numbers for.
+        more = Prices((("ann", 0), ("bob", 0), ("old", 0)), (("ann", 0), ("bob", 0), ("new", 0), ("old", 0)))
+        self.check(NoHome, {"home": "old"}, lambda: cap_by_wish(sheet, more, "ann", "old"))
+        self.check(NoHousehold, {"name": "old"}, lambda: cap_by_wish(sheet, more, "old", "ann"), lambda: cap_by_empty(sheet, more, ("ann", "old")))
         self.check(NoHome, {"home": "x"}, lambda: loss_by_empty(NOBODY, "x"))
 
 

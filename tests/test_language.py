@@ -200,7 +200,8 @@ class ThePackage(unittest.TestCase):
     def test_holds_nothing_but_files(self):
         files = package_files()
         self.assertEqual([name for name, text in files.items() if text is None], [])
-        for name in ("__init__.py", "errors.py", "data.py", "plans.py", "swaps.py"):
+        listed = ("errors", "data", "plans", "swaps", "orders", "changes", "rings", "withdrawals")
+        for name in ("__init__.py", *[f"{word}.py" for word in listed]):
             self.assertIn(name, files)
 
     def test_keeps_to_the_rules(self):

@@ -289,6 +289,9 @@ class Wrong(unittest.TestCase):
                     lambda: pushed_out(SIX, form, "ann"), lambda: pushed_out(SIX, form, "who"),
                 )
 
+    def test_walk_asks_for_all_names_first(self):
+        self.check("zoe", lambda: next(walk(SIX, (*EVERYBODY, "zoe"))))
+
     def test_names_beside_an_order(self):
         self.check(
             "zoe",
