@@ -3,6 +3,11 @@
 from crosshomes.errors import NoHome, NoHousehold, Taken
 
 
+def is_number(thing):
+    """Whether thing is a Number: an int, but neither True nor False."""
+    return isinstance(thing, int) and not isinstance(thing, bool)
+
+
 def is_name(thing):
     """Whether thing is a NAME: a string of 1 to 8 letters a to z."""
     if not isinstance(thing, str):
@@ -14,10 +19,11 @@ def is_set(thing):
     """Whether thing is a set of NAMEs: an ascending tuple without duplicates."""
     if not isinstance(thing, tuple) or not all([is_name(name) for name in thing]):
         return False
-    return _ascends(thing)
+    return ascends(thing)
 
 
-def _ascends(names):
+def ascends(names):
+    """Whether each of these is less than the next one."""
     return all([one < other for one, other in zip(names, names[1:])])
 
 
@@ -44,7 +50,7 @@ def is_sheet(thing):
     if not isinstance(rows, tuple) or not all([_is_row(row) for row in rows]):
         return False
     names = [name for name, wants in rows]
-    return _ascends(names) and is_set(empties) and not any([name in empties for name in names])
+    return ascends(names) and is_set(empties) and not any([name in empties for name in names])
 
 
 def plain_sheet(sheet):

@@ -4,7 +4,7 @@ What homes are worth stands in a dict, called values: for each household the dic
 one among them, with a number for each.
 """
 
-from crosshomes.data import homes, wanted_homes
+from crosshomes.data import homes, is_number, wanted_homes
 
 
 def values_of(sheet):
@@ -121,6 +121,6 @@ def _has_numbers(thing, names):
     """Whether thing is a tuple of pairs of these names, in this order, and a number."""
     if not isinstance(thing, tuple) or not all([isinstance(pair, tuple) and len(pair) == 2 for pair in thing]):
         return False
-    if not all([isinstance(number, int) and not isinstance(number, bool) for name, number in thing]):
+    if not all([is_number(number) for name, number in thing]):
         return False
     return [name for name, number in thing] == names

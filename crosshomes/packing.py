@@ -13,6 +13,19 @@ def rings_in(sheet, longest):
     return found
 
 
+def all_rings(sheet, longest):
+    """All rings of at most so many households, as PARTs."""
+    wants = wanted_homes(sheet)
+    ways = [(name,) for name in wants]
+    found = []
+    for _ in range(longest - 1):
+        steps = [(way, name) for way in ways for name in wants[way[-1]] if name in wants]
+        # The least name of a ring is its first one.
+        ways = [(*way, name) for way, name in steps if name > way[0] and name not in way]
+        found.extend([(way, "") for way in ways if way[0] in wants[way[-1]]])
+    return found
+
+
 def rows_in(sheet):
     """For each set of households that can move as a row to an empty home, one such row, as a PART."""
     wants = wanted_homes(sheet)

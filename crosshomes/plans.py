@@ -199,7 +199,8 @@ class Plan:
 
 def plan_by(held):
     """The Plan by which each household has the home that it has in this dict; who has its own one does not move."""
-    return Plan.of(_parts_by({name: home for name, home in held.items() if home != name}))
+    parts = _parts_by({name: home for name, home in held.items() if home != name})
+    return Plan(*parts)
 
 
 def is_plan(sheet, plan):

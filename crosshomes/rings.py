@@ -189,9 +189,10 @@ def with_part(sheet, name):
         for way in ways.values():
             for home in wants[way[-1]]:
                 if home == name:
-                    return Plan.ring(*way)
+                    ring = Plan((way, ""))
+                    return ring.parts[0]
                 if home not in wants:
-                    return Plan.row(home, *way)
+                    return way, home
         ways = {home: (*way, home) for way in ways.values() for home in wants[way[-1]] if home not in reached}
         reached = [*reached, *ways]
     return None
@@ -217,4 +218,5 @@ def most_rings(sheet, *, longest=3):
 
 def rings_plan(sheet, *, longest=3):
     """A Plan of such rings by which so many move."""
-    return Plan.of(_best_rings(sheet, longest)[1])
+    _, rings = _best_rings(sheet, longest)
+    return Plan(*rings)

@@ -54,7 +54,8 @@ def safest(sheet, many):
 
 def safest_plan(sheet, many):
     """A PLAN that has it."""
-    return Plan.of(_safest(sheet, many)[1])
+    _, parts = _safest(sheet, many)
+    return Plan(*parts)
 
 
 def _whole_parts(plan, gone):
@@ -84,7 +85,8 @@ def most_repaired(sheet, plan, *, gone):
 def repair(sheet, plan, *, gone):
     """A PLAN by which they do so, and so many move."""
     more = any_plan(rest_sheet(sheet, plan, gone=gone))
-    whole = Plan.of(_whole_parts(plan, gone))
+    parts = _whole_parts(plan, gone)
+    whole = Plan(*parts)
     # A row of the rest may end in a home that a whole row leaves: both are one row then.
     return plan_by({name: one(name) for one in (whole, more) for name in one.movers})
 

@@ -217,3 +217,28 @@ def plain_left(moves, gone):
 
 def moves_of(plan):
     return {name: plan(name) for name in plan.movers}
+
+
+def drawn_stays(chance, names, last):
+    """STAYs of most of these names, and of some that are no households, from day 0 to last at the most."""
+    found = []
+    for name in sorted([*[one for one in names if chance.random() < 0.9], "ghost", "zzz"]):
+        come = chance.randint(0, last)
+        found.append((name, come, chance.randint(come, min(last, come + chance.choice((0, 2, last))))))
+    return tuple(found)
+
+
+def days_of(stays, name):
+    """The set of the days on which this name is there."""
+    return {day for one, come, go in stays if one == name for day in range(come, go + 1)}
+
+
+def plain_met(sheet, stays):
+    """The days on which the two of each pair that suits and meets are both there, by the pair."""
+    met = {pair: days_of(stays, pair[0]) & days_of(stays, pair[1]) for pair in plain_pairs(sheet)}
+    return {pair: days for pair, days in met.items() if days}
+
+
+def only(sheet, names):
+    """The SHEET of these households alone, with all empty homes."""
+    return tuple(row for row in sheet[0] if row[0] in names), sheet[1]

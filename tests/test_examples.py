@@ -2,7 +2,7 @@
 
 import unittest
 
-from crosshomes import changes, data, errors, orders, plans, rings, swaps, withdrawals
+from crosshomes import changes, data, days, errors, exchange, orders, plans, rings, swaps, texts, withdrawals
 
 SHEETS = """
 >>> six = ((("ann", ("bob",)), ("bob", ("ann", "cat")), ("cat", ("bob", "dan", "eve")), ("dan", ("cat", "eve")), ("eve", ("cat", "dan")), ("fay", ("cat", "new"))), ("new",))
@@ -108,6 +108,41 @@ WITHDRAWALS = """
 (0, True)
 """
 
+DAYS = """
+>>> calendar = Calendar((("ann", 0, 2), ("bob", 2, 5), ("cat", 1, 4), ("dan", 4, 6), ("eve", 6, 8), ("fay", 3, 9)))
+>>> calendar["bob"], calendar(4, ("cat",)), calendar.meet("bob", "cat"), calendar.meet("cat", "eve"), calendar.days
+((2, 5), ('bob', 'dan', 'fay'), (2, 4), None, (0, 1, 2, 3, 4, 5, 6, 8, 9))
+>>> most_between(six, calendar), most_between(six, calendar, last=3), latest_start(six, calendar), earliest_end(six, calendar)
+(4, 2, 4, 4)
+>>> day_by_day(six, calendar, ("ann", "bob", "cat", "dan", "eve", "fay"))
+[(2, ('ann', 'bob')), (4, ('cat', 'dan'))]
+>>> days_for(six, calendar), are_apart(six, calendar, (("ann", "bob"), ("cat", "dan"), ("dan", "eve"))), best_day(six, calendar)
+((2, 4, 6), True, (3, 3))
+"""
+
+EXCHANGE = """
+>>> exchange = Exchange(six)
+>>> exchange.plan().parts, exchange.order, len(exchange), exchange["fay"], "new" in exchange
+(((('ann', 'bob'), ''), (('cat', 'dan'), '')), ('ann', 'bob', 'cat', 'dan', 'eve', 'fay'), 6, ('cat', 'new'), False)
+>>> exchange.run(gone=("dan",)).parts, exchange.sheet[0][0], exchange.plan().parts
+(((('ann', 'bob'), ''),), ('cat', ('bob', 'dan', 'eve')), ((('cat', 'dan'), ''),))
+>>> exchange.attempt((("bound", None), ("run", ()), ("leave", "cat")))
+raises Stopped(number=2, word='NoHousehold', value='cat')
+>>> exchange.bound, exchange.undo(), len(exchange), exchange.undo()
+(2, True, 6, False)
+"""
+
+TEXTS = """
+>>> sheet_text(six).split("\\n")[4:]
+['eve: cat dan', 'fay: cat new', '+ new']
+>>> sheet_in("ann:\\nbob: ann\\n+ ann")
+raises BadLine(number=2)
+>>> plan_in("ann>bob>ann; fay>new") == plan, len(plan_in("-"))
+(True, 0)
+>>> plan_in("bob>ann>bob")
+raises BadText()
+"""
+
 
 def steps(text):
     """The pairs of a statement, and the line that is printed behind it, None if there is none."""
@@ -120,7 +155,7 @@ def steps(text):
 
 def names_to_use():
     found = {}
-    for module in (data, errors, plans, swaps, orders, changes, rings, withdrawals):
+    for module in (data, errors, plans, swaps, orders, changes, rings, withdrawals, days, exchange, texts):
         found.update({name: value for name, value in vars(module).items() if not name.startswith("_")})
     return found
 
@@ -168,6 +203,15 @@ class Examples(unittest.TestCase):
 
     def test_withdrawals(self):
         self.assertEqual(self.check(SHEETS, WITHDRAWALS), 4 + 4)
+
+    def test_days(self):
+        self.assertEqual(self.check(SHEETS, DAYS), 4 + 4)
+
+    def test_exchange(self):
+        self.assertEqual(self.check(SHEETS, EXCHANGE), 4 + 4)
+
+    def test_texts(self):
+        self.assertEqual(self.check(SHEETS, PLANS, TEXTS), 4 + 6 + 4)
 
 
 if __name__ == "__main__":

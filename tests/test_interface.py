@@ -7,7 +7,9 @@ import itertools
 import types
 import unittest
 
-from crosshomes import changes, data, errors, orders, plans, rings, swaps, withdrawals
+from crosshomes import changes, data, days, desk, errors, exchange, orders, plans, rings, swaps, texts, withdrawals
+from crosshomes.days import Calendar
+from crosshomes.exchange import Exchange
 from crosshomes.orders import Order
 from crosshomes.plans import Plan
 from crosshomes.rings import Prices
@@ -110,6 +112,28 @@ SIGNATURES = {
         told_prices(sheet, plan, *, gone)
         are_told_prices(sheet, plan, thing, *, gone)
         """,
+    days: """
+        meeting_sheet(sheet, calendar, *, first=0, last=None)
+        most_between(sheet, calendar, *, first=0, last=None)
+        daily_swaps(sheet, calendar)
+        are_daily_swaps(sheet, calendar, thing)
+        latest_start(sheet, calendar)
+        earliest_end(sheet, calendar)
+        day_by_day(sheet, calendar, order)
+        fewest_days(sheet, calendar)
+        days_for(sheet, calendar)
+        apart(sheet, calendar)
+        are_apart(sheet, calendar, thing)
+        best_day(sheet, calendar)
+        """,
+    texts: """
+        sheet_text(sheet)
+        sheet_in(text)
+        plan_in(text)
+        """,
+    desk: """
+        answers(text)
+        """,
 }
 # Of each class its file, how it is made, its methods (those that Python calls by signs, too) and its properties.
 CLASSES = (
@@ -129,6 +153,27 @@ CLASSES = (
         ("__init__", "__getitem__", "__call__", "__len__", "__eq__"),
         ("total", "pairs"),
     ),
+    (
+        Calendar, days, "(stays)",
+        ("always", "meet", "__init__", "__getitem__", "__setitem__", "__contains__", "__len__", "__bool__", "__call__", "__add__",
+         "__iadd__", "__and__", "__eq__"),
+        ("stays", "days"),
+    ),
+    (
+        Exchange, exchange, "(sheet=((), ()), *, bound=2)",
+        ("leave", "offer", "close", "change", "plan", "run", "attempt", "undo", "twin", "__init__", "__getitem__", "__setitem__",
+         "__contains__", "__len__", "__eq__"),
+        ("bound", "order", "sheet", "plans"),
+    ),
+)
+# The properties that can be set.
+SETTABLE = ((Exchange, "bound"), (Exchange, "order"))
+METHODS = (
+    (Plan.within, "(self, other)"), (Plan.of, "(parts)"), (Order.ahead, "(self, one, other)"), (Calendar.always, "(sheet, come, go)"),
+    (Calendar.meet, "(self, one, other)"), (Calendar.__call__, "(self, day, but=())"), (Exchange.leave, "(self, name)"),
+    (Exchange.offer, "(self, home)"), (Exchange.close, "(self, home)"), (Exchange.change, "(self, word, value)"),
+    (Exchange.plan, "(self)"), (Exchange.run, "(self, *, gone=())"), (Exchange.attempt, "(self, deeds)"), (Exchange.undo, "(self)"),
+    (Exchange.twin, "(self)"),
 )
 PLAN = Plan((("ann", "bob"), ""), (("cat", "dan", "eve"), ""), (("fay",), "new"))
 LINE = ("fay", "dan", "ann", "cat", "eve", "bob")
@@ -136,6 +181,8 @@ GROUPS = (("ann", "cat", "dan", "eve"), (), ("bob", "fay"))
 FIVE = data.without(SIX, ("fay",))
 SIX_PRICES = rings.prices_of(SIX)
 TOLD = withdrawals.told_prices(SIX, PLAN, gone=("cat", "fay"))
+STAYS = (("ann", 0, 2), ("bob", 2, 5), ("cat", 1, 4), ("dan", 4, 6), ("eve", 6, 8), ("fay", 3, 9))
+CALENDAR = Calendar(STAYS)
 # Each function with its arguments by their names, in order, and the word from which on they go by name alone.
 CALLS = (
     (data.is_sheet, {"thing": SIX}, None),
@@ -238,10 +285,38 @@ CALLS = (
     (withdrawals.calmest, {"sheet": SIX, "plan": PLAN, "gone": ("bob", "cat")}, "gone"),
     (withdrawals.told_prices, {"sheet": SIX, "plan": PLAN, "gone": ("bob", "cat")}, "gone"),
     (withdrawals.are_told_prices, {"sheet": SIX, "plan": PLAN, "thing": TOLD, "gone": ("cat", "fay")}, "gone"),
+    (Calendar, {"stays": STAYS}, None),
+    (Calendar.always, {"sheet": SIX, "come": 3, "go": 7}, None),
+    (CALENDAR, {"day": 4, "but": ("cat", "zoe")}, None),
+    (CALENDAR, {"day": 4}, None),
+    (CALENDAR.meet, {"one": "bob", "other": "cat"}, None),
+    (days.meeting_sheet, {"sheet": SIX, "calendar": CALENDAR}, None),
+    (days.meeting_sheet, {"sheet": SIX, "calendar": CALENDAR, "last": 4}, "last"),
+    (days.most_between, {"sheet": SIX, "calendar": CALENDAR}, None),
+    (days.most_between, {"sheet": SIX, "calendar": CALENDAR, "first": 3}, "first"),
+    (days.most_between, {"sheet": SIX, "calendar": CALENDAR, "last": 0}, "last"),
+    (days.daily_swaps, {"sheet": SIX, "calendar": CALENDAR}, None),
+    (days.are_daily_swaps, {"sheet": SIX, "calendar": CALENDAR, "thing": ((2, "ann", "bob"), (4, "cat", "dan"))}, None),
+    (days.latest_start, {"sheet": SIX, "calendar": CALENDAR}, None),
+    (days.earliest_end, {"sheet": SIX, "calendar": CALENDAR}, None),
+    (days.day_by_day, {"sheet": SIX, "calendar": CALENDAR, "order": LINE}, None),
+    (days.fewest_days, {"sheet": SIX, "calendar": CALENDAR}, None),
+    (days.days_for, {"sheet": SIX, "calendar": CALENDAR}, None),
+    (days.apart, {"sheet": SIX, "calendar": CALENDAR}, None),
+    (days.are_apart, {"sheet": SIX, "calendar": CALENDAR, "thing": (("ann", "bob"), ("cat", "dan"), ("dan", "eve"))}, None),
+    (days.best_day, {"sheet": SIX, "calendar": CALENDAR}, None),
+    (Exchange, {"sheet": SIX, "bound": None}, "bound"),
+    (Exchange, {"sheet": SIX}, None),
+    (Exchange, {"bound": 3}, "bound"),
+    (texts.sheet_text, {"sheet": SIX}, None),
+    (texts.sheet_in, {"text": "ann: bob zoe\nbob:\n+ new"}, None),
+    (texts.plan_in, {"text": "ann>bob>ann; fay>new"}, None),
+    (desk.answers, {"text": "ann: bob\nbob: ann\n\nplan\nmost"}, None),
 )
-# What these return: lists, sets and other tuples, and objects; all others tell a number, yes or no, a name or None.
+# What return lists.
 LISTS = {
     "suiting", "parts_in", "sure_swaps", "idle_swaps", "by_classes", "helping_pairs", "surely_take", "may_take",
+    "day_by_day", "answers",
 }
 
 
@@ -249,21 +324,28 @@ def value_of(found):
     """What a call returned, in a form that tells tuples from lists and True from 1."""
     if isinstance(found, types.GeneratorType):
         return repr(list(found))
-    if isinstance(found, (Plan, Order, Prices)):
+    if isinstance(found, OBJECTS):
         return repr((found.__class__.__name__, held_by(found)))
     return repr(found)
+
+
+OBJECTS = (Plan, Order, Prices, Calendar, Exchange)
 
 
 def held_by(thing):
     """What an object of the package holds."""
     if isinstance(thing, Plan):
         return thing.parts
+    if isinstance(thing, Calendar):
+        return thing.stays
+    if isinstance(thing, Exchange):
+        return thing.sheet, thing.order, thing.bound, [plan.parts for plan in thing.plans]
     return thing.line if isinstance(thing, Order) else thing.pairs
 
 
 def shown(value):
     """A value of arguments with what the objects among them hold, to see whether it changes."""
-    return repr([held_by(one) if isinstance(one, (Plan, Order, Prices)) else one for one in value.values()])
+    return repr([held_by(one) if isinstance(one, OBJECTS) else one for one in value.values()])
 
 
 def by_position(call, given, star):
@@ -304,7 +386,15 @@ class Interface(unittest.TestCase):
                     self.assertIn(word, vars(made))
             for word in properties:
                 self.assertIsInstance(vars(made)[word], property)
-                self.assertIsNone(vars(made)[word].fset)
+                self.assertIs(vars(made)[word].fset is not None, (made, word) in SETTABLE)
+
+    def test_methods(self):
+        for method, words in METHODS:
+            with self.subTest(method=method):
+                self.assertEqual(str(inspect.signature(method)), words)
+        listed = {method.__name__ for method, _ in METHODS} | {"ring", "row", "__init__"}
+        for made, _, _, methods, _ in CLASSES:
+            self.assertLessEqual({word for word in methods if not word.startswith("__")}, listed)
 
     def test_the_class_plan(self):
         self.assertIsInstance(vars(Plan)["of"], classmethod)
@@ -402,6 +492,7 @@ class GeneralRules(unittest.TestCase):
         asked = (
             data.is_sheet, plans.is_part, plans.is_plan, swaps.is_barrier, data.suits, PLAN.within, orders.can_move,
             orders.is_why_not, changes.can_leave, rings.are_prices, rings.move_together, withdrawals.are_told_prices,
+            days.are_daily_swaps, days.are_apart,
         )
         for call, given, _ in CALLS:
             if call in asked:
@@ -421,6 +512,8 @@ class GeneralRules(unittest.TestCase):
                 self.assertIs(orders.is_why_not(SIX, ("ann", "cat", "dan", "eve"), thing), False)
                 self.assertIs(rings.are_prices(SIX, thing), False)
                 self.assertIs(withdrawals.are_told_prices(SIX, PLAN, thing, gone=()), False)
+                self.assertIs(days.are_daily_swaps(SIX, CALENDAR, thing), False)
+                self.assertIs(days.are_apart(SIX, CALENDAR, thing), False)
                 self.assertIs(thing in Order(("bob", "cat")), False)
 
     def test_things_within_things(self):
@@ -472,7 +565,8 @@ class GeneralRules(unittest.TestCase):
             "sheet": CROWD, "some": eight, "other": "h", "thing": eight, "order": order, "name": "a", "classes": (eight[:3], (), eight[3:]),
             "worths": tuple(range(8)), "suits": eight, "one": "a", "home": "x", "wanting": eight, "empty": "y", "plan": plan,
             "prices": rings.prices_of(CROWD), "names": eight, "many": 3, "gone": ("b", "g"), "without": ("c",), "wants": ("a",), "odd": True,
-            "first": ("c", "a"), "rows": False, "longest": 8, "idle": True,
+            "first": ("c", "a"), "rows": False, "longest": 8, "idle": True, "calendar": Calendar.always(CROWD, 0, 40), "last": 40,
+            "text": "\n".join([*texts.sheet_text(CROWD).split("\n"), "", *["plan", "who", "run", "undo"] * 12, "most", "homes"]),
         }
         for call, given, _ in CALLS:
             if isinstance(call, types.FunctionType):
@@ -483,6 +577,10 @@ class GeneralRules(unittest.TestCase):
                     used["sheet"] = small
                 if call == orders.more_from:
                     used.update({"some": eight[:3], "other": eight})
+                if call == days.most_between and "first" in used:
+                    used["first"] = 40
+                if call in (texts.sheet_in, texts.plan_in):
+                    used["text"] = texts.sheet_text(CROWD) if call == texts.sheet_in else plan.text
                 with self.subTest(call=call.__name__):
                     self.assertEqual(value_of(call(**used)), value_of(call(**used)))
 
@@ -495,6 +593,9 @@ class GeneralRules(unittest.TestCase):
                 lambda: swaps.suiting(sheet=sheet, without=kept),
                 lambda: swaps.parts_in(sheet=sheet, some=kept),
                 lambda: swaps.leaves(sheet=sheet, name="bea"),
+                lambda: days.day_by_day(sheet=sheet, calendar=CALENDAR, order=kept),
+                lambda: Exchange(sheet).run(gone=kept),
+                lambda: Exchange(sheet).change(word="order", value=kept),
             )
             for call in calls:
                 self.assertEqual(raised(call), (errors.NoHousehold, {"name": "bea"}))

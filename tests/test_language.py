@@ -200,7 +200,9 @@ class ThePackage(unittest.TestCase):
     def test_holds_nothing_but_files(self):
         files = package_files()
         self.assertEqual([name for name, text in files.items() if text is None], [])
-        listed = ("errors", "data", "plans", "swaps", "orders", "changes", "rings", "withdrawals")
+        listed = (
+            "errors", "data", "plans", "swaps", "orders", "changes", "rings", "withdrawals", "days", "exchange", "texts", "desk",
+        )
         for name in ("__init__.py", *[f"{word}.py" for word in listed]):
             self.assertIn(name, files)
 

@@ -16,7 +16,7 @@ from tests.test_language import package_files
 
 STATEMENTS = (
     ast.Assign, ast.AugAssign, ast.If, ast.While, ast.For, ast.Return, ast.Break, ast.Continue, ast.Pass, ast.Raise,
-    ast.Assert, ast.Delete, ast.Expr, ast.FunctionDef, ast.ClassDef, ast.ImportFrom,
+    ast.Assert, ast.Delete, ast.Expr, ast.FunctionDef, ast.ClassDef, ast.ImportFrom, ast.Try,
 )
 BUILTINS = {
     "len", "range", "enumerate", "zip", "min", "max", "sum", "abs", "sorted", "reversed", "int", "str", "bool", "list",
@@ -80,6 +80,8 @@ def statement_faults(tree):
     for node in ast.walk(tree):
         if isinstance(node, ast.stmt) and not isinstance(node, STATEMENTS):
             faults.append((node.lineno, f"L6 {node.__class__.__name__}"))
+        if isinstance(node, ast.Try) and node.finalbody:
+            faults.append((node.lineno, "L6 finally"))
         if isinstance(node, (ast.GeneratorExp, ast.Await, ast.NamedExpr, ast.Div, ast.MatMult)):
             faults.append((getattr(node, "lineno", 0), f"L7 {node.__class__.__name__}"))
         if isinstance(node, ast.Constant) and isinstance(node.value, (float, complex, bytes)):
@@ -148,6 +150,7 @@ def name_faults(tree):
     top |= {target.id for target in targets if isinstance(target, ast.Name)}
     given = {node.id: node.lineno for node in ast.walk(tree) if isinstance(node, ast.Name) and isinstance(node.ctx, ast.Store)}
     given.update({node.arg: node.lineno for node in ast.walk(tree) if isinstance(node, ast.arg)})
+    given.update({node.name: node.lineno for node in ast.walk(tree) if isinstance(node, ast.ExceptHandler) and node.name})
     nested = [node for outer in ast.walk(tree) if isinstance(outer, ast.FunctionDef) for node in ast.walk(outer)]
     given.update({node.name: node.lineno for node in nested if isinstance(node, ast.FunctionDef) and node.name not in top})
     for name, line in given.items():
@@ -299,6 +302,7 @@ class TheChecks(unittest.TestCase):
         "def f(x):\n    return {**x, 'a': 1}, [*x, 2], max(x, key=lambda one: one, default=0)\n",
         "class A:\n    def __init__(self, n):\n        self._n = n\n\n    @property\n    def n(self):\n        return self._n\n",
         "class A:\n    def __eq__(self, other):\n        if not isinstance(other, A):\n            return NotImplemented\n        return self.n == other.n\n",
+        "class A(ValueError):\n    \"\"\"Told.\"\"\"\n\n\ndef f(x):\n    try:\n        return g(x)\n    except A as why:\n        return why.n\n\n\ndef g(x):\n    raise A()\n",
     )
     WRONG = (
         "print(1)\n", "x = f\n", "x = 1\nx = 2\n", "a, b = 1, 2\n", "x = 1 + 2\n", "def f():\n    global x\n    return x\n",

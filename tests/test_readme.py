@@ -33,7 +33,7 @@ class Readme(unittest.TestCase):
                         compared += 1
                     else:
                         exec(code, space)
-        self.assertEqual(compared, 30)
+        self.assertEqual(compared, 57)
 
 
 if __name__ == "__main__":
