@@ -1,4 +1,4 @@
-"""Days beside a plain trying of all possibilities: all swaps on all days, all sets of days, each order; promise [11]."""
+"""Days beside a plain trying of all swaps on all days, all sets of days and each order; promise [11]."""
 
 import itertools
 import random
@@ -11,7 +11,8 @@ from crosshomes.days import (
 )
 from crosshomes.orders import Order
 from tests.helper import (
-    all_graphs, days_of, drawn_stays, only, plain_kept, plain_met, plain_plans, plain_swaps, random_sheets, shuffled, subsets,
+    all_graphs, days_of, drawn_stays, only, plain_kept, plain_met, plain_plans, plain_swaps, random_sheets, shuffled,
+    subsets,
 )
 
 
@@ -180,7 +181,10 @@ class AllDailySwaps(unittest.TestCase):
         names = [*households(sheet), "ghost", "zzz"]
         bent = [swaps[::-1], swaps[1:], (*swaps, *swaps[:1])]
         for at, (day, one, other) in enumerate(swaps):
-            more = [(chance.randint(0, 5), one, other), (day, other, one), (day, one, chance.choice(names)), (day, chance.choice(names), other)]
+            more = [
+                (chance.randint(0, 5), one, other), (day, other, one), (day, one, chance.choice(names)),
+                (day, chance.choice(names), other),
+            ]
             bent.extend((*swaps[:at], triple, *swaps[at + 1:]) for triple in more)
         for thing in bent:
             self.assertIs(are_daily_swaps(sheet, Calendar(stays), thing), thing in best)

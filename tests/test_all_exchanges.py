@@ -128,7 +128,10 @@ class AllDeeds(unittest.TestCase):
         sheet = state.sheet()
         self.assertEqual((exchange.sheet, exchange.order, exchange.bound), (sheet, tuple(state.order), state.bound))
         self.assertEqual(tuple(plan.parts for plan in exchange.plans), tuple(state.plans))
-        self.assertEqual((len(exchange), [name for name in self.NAMES if name in exchange]), (len(state.wants), sorted(state.wants)))
+        self.assertEqual(
+            (len(exchange), [name for name in self.NAMES if name in exchange]),
+            (len(state.wants), sorted(state.wants)),
+        )
         self.assertEqual({name: exchange[name] for name in state.wants}, state.wants)
         self.assertEqual(moves_of(exchange.plan()), state.next())
 
@@ -136,7 +139,10 @@ class AllDeeds(unittest.TestCase):
         """(h): a new Exchange in the same state answers the same."""
         new = Exchange(exchange.sheet, bound=exchange.bound)
         new.order = exchange.order
-        self.assertEqual((new.plan(), new.sheet, new.order, new.bound), (exchange.plan(), exchange.sheet, exchange.order, exchange.bound))
+        self.assertEqual(
+            (new.plan(), new.sheet, new.order, new.bound),
+            (exchange.plan(), exchange.sheet, exchange.order, exchange.bound),
+        )
         self.assertIs(new == exchange, exchange.plans == ())
         self.assertEqual((new.run(), new.sheet, new.order), (exchange.twin().run(), *self.after_run(exchange)))
 
@@ -149,7 +155,8 @@ class AllDeeds(unittest.TestCase):
         """Does a deed by its own method, and tells what it returns or the error, as an attempt of it does."""
         word, *given = deed
         calls = {
-            "want": lambda: exchange.__setitem__(*given), "leave": lambda: exchange.leave(*given), "offer": lambda: exchange.offer(*given),
+            "want": lambda: exchange.__setitem__(*given), "leave": lambda: exchange.leave(*given),
+            "offer": lambda: exchange.offer(*given),
             "close": lambda: exchange.close(*given), "bound": lambda: exchange.change("bound", *given),
             "order": lambda: setattr(exchange, "order", *given), "run": lambda: exchange.run(gone=given[0]),
         }
@@ -211,9 +218,18 @@ class AllDeeds(unittest.TestCase):
 
     def test_stopped_whichever_deed_fails(self):
         """Each of several deeds fails once: none is done, and undo takes back what it did before."""
-        deeds = [("offer", "x"), ("want", "ann", ("bob", "x")), ("bound", None), ("want", "zoe", ()), ("order", ("zoe", "bob", "ann")), ("run", ())]
-        wrong = [("offer", "bob"), ("close", "zoe"), ("bound", 5), ("leave", "zed"), ("order", ()), ("run", ("zed",)), ("want", "y", ())]
-        told = [("Taken", "bob"), ("NoHome", "zoe"), ("BadBound", 5), ("NoHousehold", "zed"), ("BadOrder", None), ("NoHousehold", "zed"), ("Taken", "y")]
+        deeds = [
+            ("offer", "x"), ("want", "ann", ("bob", "x")), ("bound", None), ("want", "zoe", ()),
+            ("order", ("zoe", "bob", "ann")), ("run", ()),
+        ]
+        wrong = [
+            ("offer", "bob"), ("close", "zoe"), ("bound", 5), ("leave", "zed"), ("order", ()), ("run", ("zed",)),
+            ("want", "y", ()),
+        ]
+        told = [
+            ("Taken", "bob"), ("NoHome", "zoe"), ("BadBound", 5), ("NoHousehold", "zed"), ("BadOrder", None),
+            ("NoHousehold", "zed"), ("Taken", "y"),
+        ]
         sheet = (("ann", ()), ("bob", ("ann",))), ("y",)
         for at, (bad, (word, value)) in itertools.product(range(len(deeds)), zip(wrong, told)):
             exchange = Exchange(sheet)

@@ -136,8 +136,10 @@ def bent(chance, text, letters):
     at, end = sorted((chance.randint(0, len(text)), chance.randint(0, len(text))))
     far = min(end, at + 2)
     ways = (
-        lambda: text[:at] + chance.choice(letters) + text[at:], lambda: text[:at] + text[at + 1:], lambda: text[:at] + chance.choice(letters) + text[at + 1:],
-        lambda: text[:at] + text[far:], lambda: text[:end] + text[at:], lambda: text[:at] + text[at + 1:at + 2] + text[at:at + 1] + text[at + 2:],
+        lambda: text[:at] + chance.choice(letters) + text[at:], lambda: text[:at] + text[at + 1:],
+        lambda: text[:at] + chance.choice(letters) + text[at + 1:],
+        lambda: text[:at] + text[far:], lambda: text[:end] + text[at:],
+        lambda: text[:at] + text[at + 1:at + 2] + text[at:at + 1] + text[at + 2:],
     )
     return chance.choice(ways)()
 
@@ -147,7 +149,8 @@ def changed_lines(chance, text):
     lines = text.split("\n")
     at, other = chance.randrange(len(lines)), chance.randrange(len(lines))
     ways = (
-        lambda: [*lines[:at], "", *lines[at:]], lambda: lines[:at] + lines[at + 1:], lambda: [*lines[:at], lines[other], *lines[at:]],
+        lambda: [*lines[:at], "", *lines[at:]], lambda: lines[:at] + lines[at + 1:],
+        lambda: [*lines[:at], lines[other], *lines[at:]],
         lambda: [*lines[:at], *lines[at + 1:at + 2], *lines[at:at + 1], *lines[at + 2:]], lambda: [*lines, ""],
     )
     return "\n".join(chance.choice(ways)())
@@ -184,7 +187,10 @@ class SheetTexts(unittest.TestCase):
                 self.check("".join(text))
 
     def test_two_lines(self):
-        lines = ["", "a:", "a: b", "a: b c", "a: c b", "b:", "b: a", "b: b", "+", "+ a", "+ b", "+ c", "+ a b", "+ b a", "a", " a:"]
+        lines = [
+            "", "a:", "a: b", "a: b c", "a: c b", "b:", "b: a", "b: b", "+", "+ a", "+ b", "+ c", "+ a b", "+ b a",
+            "a", " a:",
+        ]
         for many in (1, 2, 3):
             for chosen in itertools.product(lines, repeat=many):
                 self.check("\n".join(chosen))
@@ -250,8 +256,10 @@ class DeskTexts(unittest.TestCase):
         line = " ".join(["order", *chance.sample(self.NAMES[:4], chance.choice((0, 3, 4, 4)))])
         wants = ",".join(other for other in names if other != name) or "-"
         return chance.choice((
-            f"want {name} {wants}", f"want {name} {wants}", f"leave {name}", f"offer {name}", f"close {name}", f"bound {chance.choice(('2', '3', 'any', 'any'))}", line,
-            "plan", "plan", "run", f"run without {some}", "who", "homes", "most", f"most without {some}", "undo", "undo",
+            f"want {name} {wants}", f"want {name} {wants}", f"leave {name}", f"offer {name}", f"close {name}",
+            f"bound {chance.choice(('2', '3', 'any', 'any'))}", line,
+            "plan", "plan", "run", f"run without {some}", "who", "homes", "most", f"most without {some}", "undo",
+            "undo",
         ))
 
     def drawn_text(self, chance):
@@ -277,7 +285,10 @@ class DeskTexts(unittest.TestCase):
             with self.subTest(text=text):
                 self.assertIs(self.check(text), False)
                 seen.update(answers(text))
-        self.assertLessEqual({"done", "yes", "no", "-", "refused NoHousehold", "refused NoHome", "refused Taken", "refused BadOrder", "0", "2", "4"}, seen)
+        self.assertLessEqual(
+            {"done", "yes", "no", "-", "refused NoHousehold", "refused NoHome", "refused Taken", "refused BadOrder", "0", "2", "4"},
+            seen,
+        )
 
     def test_bent(self):
         chance = random.Random(94)

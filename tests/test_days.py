@@ -45,12 +45,21 @@ class AboutCalendars(unittest.TestCase):
 
     def test_who_is_there(self):
         calendar = Calendar(STAYS)
-        there = [("ann",), ("ann", "cat"), ("ann", "bob", "cat"), ("bob", "cat", "fay"), ("bob", "cat", "dan", "fay"), ("bob", "dan", "fay")]
+        there = [
+            ("ann",), ("ann", "cat"), ("ann", "bob", "cat"), ("bob", "cat", "fay"), ("bob", "cat", "dan", "fay"),
+            ("bob", "dan", "fay"),
+        ]
         self.assertEqual([calendar(day) for day in range(6)], there)
-        self.assertEqual([calendar(day) for day in range(6, 11)], [("dan", "eve", "fay"), ("eve", "fay"), ("eve", "fay"), ("fay",), ()])
+        self.assertEqual(
+            [calendar(day) for day in range(6, 11)],
+            [("dan", "eve", "fay"), ("eve", "fay"), ("eve", "fay"), ("fay",), ()],
+        )
         self.assertEqual(calendar(4, ("cat",)), ("bob", "dan", "fay"))
         self.assertEqual(calendar(4, ("ann", "cat", "nobody", "zoe")), ("bob", "dan", "fay"))
-        self.assertEqual((calendar(4, but=["bob", "fay"]), calendar(day=4, but=()), calendar(4, EVERYBODY)), (("cat", "dan"), there[4], ()))
+        self.assertEqual(
+            (calendar(4, but=["bob", "fay"]), calendar(day=4, but=()), calendar(4, EVERYBODY)),
+            (("cat", "dan"), there[4], ()),
+        )
 
     def test_first_and_last_days(self):
         calendar = Calendar((("a", 0, 0), ("b", 40, 40), ("c", 0, 40)))
@@ -60,9 +69,13 @@ class AboutCalendars(unittest.TestCase):
     def test_a_new_stay(self):
         calendar = Calendar(STAYS)
         calendar["bob"] = (0, 0)
-        self.assertEqual((calendar["bob"], calendar(0), calendar(2), len(calendar)), ((0, 0), ("ann", "bob"), ("ann", "cat"), 6))
+        self.assertEqual(
+            (calendar["bob"], calendar(0), calendar(2), len(calendar)), ((0, 0), ("ann", "bob"), ("ann", "cat"), 6),
+        )
         calendar["aaa"] = [7, 40]
-        self.assertEqual((calendar["aaa"], len(calendar), calendar.stays[0], calendar.days[-1]), ((7, 40), 7, ("aaa", 7, 40), 40))
+        self.assertEqual(
+            (calendar["aaa"], len(calendar), calendar.stays[0], calendar.days[-1]), ((7, 40), 7, ("aaa", 7, 40), 40),
+        )
         self.assertIs(calendar["aaa"].__class__, tuple)
         self.assertIs(calendar.stays[0].__class__, tuple)
         self.assertIn("aaa", calendar)
@@ -100,9 +113,18 @@ class AboutCalendars(unittest.TestCase):
 
     def test_meet(self):
         calendar = Calendar(STAYS)
-        self.assertEqual((calendar.meet("bob", "cat"), calendar.meet("cat", "bob"), calendar.meet(other="fay", one="bob")), ((2, 4), (2, 4), (3, 5)))
-        self.assertEqual((calendar.meet("ann", "bob"), calendar.meet("dan", "eve"), calendar.meet("fay", "eve")), ((2, 2), (6, 6), (6, 8)))
-        self.assertEqual((calendar.meet("cat", "eve"), calendar.meet("ann", "fay"), calendar.meet("ann", "ann")), (None, None, (0, 2)))
+        self.assertEqual(
+            (calendar.meet("bob", "cat"), calendar.meet("cat", "bob"), calendar.meet(other="fay", one="bob")),
+            ((2, 4), (2, 4), (3, 5)),
+        )
+        self.assertEqual(
+            (calendar.meet("ann", "bob"), calendar.meet("dan", "eve"), calendar.meet("fay", "eve")),
+            ((2, 2), (6, 6), (6, 8)),
+        )
+        self.assertEqual(
+            (calendar.meet("cat", "eve"), calendar.meet("ann", "fay"), calendar.meet("ann", "ann")),
+            (None, None, (0, 2)),
+        )
 
     def test_always(self):
         self.assertEqual(Calendar.always(SIX, 0, 40).stays, tuple((name, 0, 40) for name in EVERYBODY))
@@ -141,7 +163,8 @@ class AboutCalendars(unittest.TestCase):
         self.assertTrue(calendar == Calendar(lists(STAYS)))
         self.assertFalse(calendar != Calendar(STAYS))
         others = (
-            Calendar(STAYS[1:]), calendar + 1, Calendar((*STAYS[:5], ("fay", 3, 8))), Calendar((*STAYS[:5], ("gus", 3, 9))), Calendar(()),
+            Calendar(STAYS[1:]), calendar + 1, Calendar((*STAYS[:5], ("fay", 3, 8))),
+            Calendar((*STAYS[:5], ("gus", 3, 9))), Calendar(()),
             STAYS, (), [], None, 0, True, Plan(), PRICES, Order(EVERYBODY), SIX,
         )
         for other in others:
@@ -174,7 +197,10 @@ class Meeting(unittest.TestCase):
         self.assertEqual(meeting_sheet(SIX, calendar), (tuple(wants.items()), ()))
         self.assertEqual(meeting_sheet(SIX, Calendar(())), (tuple((name, ()) for name in EVERYBODY), ()))
         self.assertEqual(meeting_sheet(NOBODY, calendar), NOBODY)
-        self.assertEqual(dict(meeting_sheet(SIX, calendar, first=3, last=4)[0]), {**{name: () for name in EVERYBODY}, "bob": ("cat",), "cat": ("bob", "dan"), "dan": ("cat",)})
+        self.assertEqual(
+            dict(meeting_sheet(SIX, calendar, first=3, last=4)[0]),
+            {**{name: () for name in EVERYBODY}, "bob": ("cat",), "cat": ("bob", "dan"), "dan": ("cat",)},
+        )
 
     def test_first_and_last(self):
         calendar = Calendar(PAIR_STAYS)
@@ -206,7 +232,9 @@ class Meeting(unittest.TestCase):
         calendar = Calendar((("a", 0, 9), ("b", 0, 9), ("zoe", 0, 40)))
         sheet = (("a", ("b", "zoe")), ("b", ("a",)), ("c", ("a", "zoe"))), ()
         self.assertEqual(meeting_sheet(sheet, calendar), ((("a", ("b",)), ("b", ("a",)), ("c", ())), ()))
-        self.assertEqual((latest_start(sheet, calendar), earliest_end(sheet, calendar), days_for(sheet, calendar)), (9, 0, (9,)))
+        self.assertEqual(
+            (latest_start(sheet, calendar), earliest_end(sheet, calendar), days_for(sheet, calendar)), (9, 0, (9,)),
+        )
         self.assertEqual(best_day(sheet, calendar), (2, 0))
         self.assertEqual(day_by_day(sheet, calendar, ("c", "b", "a")), [(0, ("a", "b"))])
 
@@ -235,19 +263,30 @@ class DailySwaps(unittest.TestCase):
 
     def test_are_daily_swaps(self):
         calendar = Calendar(STAYS)
-        for thing in (((2, "ann", "bob"), (4, "cat", "dan")), ((2, "ann", "bob"), (6, "dan", "eve")), ((2, "bob", "cat"), (6, "dan", "eve")), ((4, "bob", "cat"), (6, "dan", "eve"))):
+        right = (
+            ((2, "ann", "bob"), (4, "cat", "dan")), ((2, "ann", "bob"), (6, "dan", "eve")),
+            ((2, "bob", "cat"), (6, "dan", "eve")), ((4, "bob", "cat"), (6, "dan", "eve")),
+        )
+        for thing in right:
             with self.subTest(thing=thing):
                 self.assertIs(are_daily_swaps(SIX, calendar, thing), True)
                 self.assertIs(are_daily_swaps(lists(SIX), calendar, thing), True)
         wrong = (
             (), ((2, "ann", "bob"),), ((2, "ann", "bob"), (3, "cat", "dan")), ((2, "ann", "bob"), (5, "cat", "dan")),
-            ((1, "bob", "cat"), (6, "dan", "eve")), ((5, "bob", "cat"), (6, "dan", "eve")), ((4, "cat", "dan"), (2, "ann", "bob")),
-            ((2, "bob", "ann"), (4, "cat", "dan")), ((2, "ann", "bob"), (4, "dan", "cat")), ((2, "ann", "bob"), (2, "bob", "cat")),
-            ((2, "ann", "bob"), (2, "ann", "bob")), ((4, "cat", "dan"), (6, "dan", "eve")), ((2, "ann", "bob"), (4, "cat", "dan"), (6, "dan", "eve")),
-            ((2, "ann", "bob"), (6, "cat", "eve")), ((2, "ann", "cat"), (6, "dan", "eve")), [(2, "ann", "bob"), (4, "cat", "dan")],
-            ((2, "ann", "bob"), [4, "cat", "dan"]), ((2, "ann", "bob"), (4, "cat", "dan", "eve")), ((2, "ann", "bob"), ("cat", "dan")),
-            ((2, "ann", "bob"), (4, ("cat", "dan"))), ((2, "ann", "bob"), (None, "cat", "dan")), ((2, "ann", "bob"), ("4", "cat", "dan")),
-            ((2, "ann", "bob"), 4), ((2, "ann", "bob"), "abc"), ((2, "ann", "bob"), (4, "cat", "zoe")), ((2, "ann", "bob"), (-4, "cat", "dan")),
+            ((1, "bob", "cat"), (6, "dan", "eve")), ((5, "bob", "cat"), (6, "dan", "eve")),
+            ((4, "cat", "dan"), (2, "ann", "bob")),
+            ((2, "bob", "ann"), (4, "cat", "dan")), ((2, "ann", "bob"), (4, "dan", "cat")),
+            ((2, "ann", "bob"), (2, "bob", "cat")),
+            ((2, "ann", "bob"), (2, "ann", "bob")), ((4, "cat", "dan"), (6, "dan", "eve")),
+            ((2, "ann", "bob"), (4, "cat", "dan"), (6, "dan", "eve")),
+            ((2, "ann", "bob"), (6, "cat", "eve")), ((2, "ann", "cat"), (6, "dan", "eve")),
+            [(2, "ann", "bob"), (4, "cat", "dan")],
+            ((2, "ann", "bob"), [4, "cat", "dan"]), ((2, "ann", "bob"), (4, "cat", "dan", "eve")),
+            ((2, "ann", "bob"), ("cat", "dan")),
+            ((2, "ann", "bob"), (4, ("cat", "dan"))), ((2, "ann", "bob"), (None, "cat", "dan")),
+            ((2, "ann", "bob"), ("4", "cat", "dan")),
+            ((2, "ann", "bob"), 4), ((2, "ann", "bob"), "abc"), ((2, "ann", "bob"), (4, "cat", "zoe")),
+            ((2, "ann", "bob"), (-4, "cat", "dan")),
         )
         for thing in wrong:
             with self.subTest(thing=thing):
@@ -262,7 +301,10 @@ class DailySwaps(unittest.TestCase):
         calendar = Calendar(STAYS)
         right = ((2, "ann", "bob"), (4, "cat", "dan"))
         for inner in (*ODD_THINGS, nested(12), Plan(), PRICES, (PRICES,), "ann"):
-            things = (inner, (inner,), (inner, right[1]), (right[0], inner), ((inner, "ann", "bob"), right[1]), ((2, inner, "bob"), right[1]), (right[0], (4, "cat", inner)))
+            things = (
+                inner, (inner,), (inner, right[1]), (right[0], inner), ((inner, "ann", "bob"), right[1]),
+                ((2, inner, "bob"), right[1]), (right[0], (4, "cat", inner)),
+            )
             for thing in [one for one in things if one != right]:
                 with self.subTest(thing=thing):
                     self.assertIs(are_daily_swaps(SIX, calendar, thing), False)
@@ -313,7 +355,10 @@ class DayByDay(unittest.TestCase):
         found = day_by_day(CROWD, always(), EIGHT)
         self.assertEqual(found, [(0, EIGHT)])
         calendar = Calendar(tuple((name, day, 40) for day, name in enumerate(EIGHT)))
-        self.assertEqual(day_by_day(CROWD, calendar, EIGHT[::-1]), [(1, ("a", "b")), (3, ("c", "d")), (5, ("e", "f")), (7, ("g", "h"))])
+        self.assertEqual(
+            day_by_day(CROWD, calendar, EIGHT[::-1]),
+            [(1, ("a", "b")), (3, ("c", "d")), (5, ("e", "f")), (7, ("g", "h"))],
+        )
 
     def test_nobody_can(self):
         for sheet, stays in ((NOBODY, STAYS), (LONELY, always().stays), (SIX, ()), (SIX, STAYS[:1])):
@@ -322,7 +367,9 @@ class DayByDay(unittest.TestCase):
     def test_names_that_are_none(self):
         for calendar in (Calendar(STAYS), Calendar(())):
             self.assertEqual(raised(lambda: day_by_day(SIX, calendar, ("ann", "zoe", "yan"))), (NoHousehold, {"name": "zoe"}))
-            self.assertEqual(raised(lambda: day_by_day(SIX, calendar, Order(("new", *EVERYBODY)))), (NoHousehold, {"name": "new"}))
+            self.assertEqual(
+                raised(lambda: day_by_day(SIX, calendar, Order(("new", *EVERYBODY)))), (NoHousehold, {"name": "new"}),
+            )
         self.assertEqual(raised(lambda: day_by_day(NOBODY, Calendar(()), ("ann",))), (NoHousehold, {"name": "ann"}))
 
 
@@ -331,7 +378,9 @@ class FewestDays(unittest.TestCase):
         calendar = Calendar(STAYS)
         self.assertEqual((fewest_days(SIX, calendar), days_for(SIX, calendar)), (3, (2, 4, 6)))
         self.assertEqual((fewest_days(PAIR, Calendar(PAIR_STAYS)), days_for(PAIR, Calendar(PAIR_STAYS))), (1, (5,)))
-        self.assertEqual((fewest_days(CROWD, always()), days_for(CROWD, always()), days_for(CROWD, always(0, 0))), (1, (40,), (0,)))
+        self.assertEqual(
+            (fewest_days(CROWD, always()), days_for(CROWD, always()), days_for(CROWD, always(0, 0))), (1, (40,), (0,)),
+        )
 
     def test_as_late_as_can_be(self):
         sheet = (("a", ("b",)), ("b", ("a",)), ("c", ("d",)), ("d", ("c",))), ()
@@ -357,10 +406,14 @@ class FewestDays(unittest.TestCase):
         calendar = Calendar(STAYS)
         self.assertIs(are_apart(SIX, calendar, (("ann", "bob"), ("cat", "dan"), ("dan", "eve"))), True)
         wrong = (
-            (), (("ann", "bob"), ("cat", "dan")), (("ann", "bob"), ("bob", "cat"), ("dan", "eve")), (("ann", "bob"), ("bob", "cat"), ("cat", "dan")),
-            (("ann", "bob"), ("dan", "eve"), ("cat", "dan")), (("bob", "ann"), ("cat", "dan"), ("dan", "eve")), (("ann", "bob"), ("ann", "bob"), ("dan", "eve")),
-            (("ann", "bob"), ("cat", "eve"), ("dan", "eve")), [("ann", "bob"), ("cat", "dan"), ("dan", "eve")], (["ann", "bob"], ("cat", "dan"), ("dan", "eve")),
-            (("ann", "bob"), ("cat", "dan"), ("dan", "eve"), ("eve", "fay")), (("ann", "bob"), ("cat", "dan"), ("dan", "zoe")), ("ann", "bob"),
+            (), (("ann", "bob"), ("cat", "dan")), (("ann", "bob"), ("bob", "cat"), ("dan", "eve")),
+            (("ann", "bob"), ("bob", "cat"), ("cat", "dan")),
+            (("ann", "bob"), ("dan", "eve"), ("cat", "dan")), (("bob", "ann"), ("cat", "dan"), ("dan", "eve")),
+            (("ann", "bob"), ("ann", "bob"), ("dan", "eve")),
+            (("ann", "bob"), ("cat", "eve"), ("dan", "eve")), [("ann", "bob"), ("cat", "dan"), ("dan", "eve")],
+            (["ann", "bob"], ("cat", "dan"), ("dan", "eve")),
+            (("ann", "bob"), ("cat", "dan"), ("dan", "eve"), ("eve", "fay")),
+            (("ann", "bob"), ("cat", "dan"), ("dan", "zoe")), ("ann", "bob"),
             (("ann", "bob"), ("bob", "cat"), ("cat", "dan"), ("dan", "eve")),
         )
         for thing in wrong:
@@ -369,19 +422,28 @@ class FewestDays(unittest.TestCase):
 
     def test_they_have_just_so_many(self):
         calendar = Calendar.always(PAIR, 0, 3)
-        self.assertEqual([are_apart(PAIR, calendar, thing) for thing in ((("a", "b"),), (("a", "c"),), (), (("a", "b"), ("a", "c")))], [True, True, False, False])
+        self.assertEqual(
+            [are_apart(PAIR, calendar, thing) for thing in ((("a", "b"),), (("a", "c"),), (), (("a", "b"), ("a", "c")))],
+            [True, True, False, False],
+        )
 
     def test_nobody_meets(self):
         for sheet, stays in ((NOBODY, STAYS), (LONELY, always().stays), (SIX, ()), (PAIR, (("a", 0, 1), ("b", 2, 3)))):
             calendar = Calendar(stays)
             self.assertEqual((fewest_days(sheet, calendar), days_for(sheet, calendar), apart(sheet, calendar)), (0, (), ()))
-            self.assertEqual([are_apart(sheet, calendar, thing) for thing in ((), [], (("a", "b"),), None)], [True, False, False, False])
+            self.assertEqual(
+                [are_apart(sheet, calendar, thing) for thing in ((), [], (("a", "b"),), None)],
+                [True, False, False, False],
+            )
 
     def test_things_of_all_kinds(self):
         calendar = Calendar(STAYS)
         right = (("ann", "bob"), ("cat", "dan"), ("dan", "eve"))
         for inner in (*ODD_THINGS, nested(12), Plan(), PRICES, (PRICES,), "ann"):
-            things = (inner, (inner,), (inner, *right[1:]), (*right[:2], inner), (("ann", inner), *right[1:]), ((inner, "bob"), *right[1:]))
+            things = (
+                inner, (inner,), (inner, *right[1:]), (*right[:2], inner), (("ann", inner), *right[1:]),
+                ((inner, "bob"), *right[1:]),
+            )
             for thing in [one for one in things if one != right]:
                 with self.subTest(thing=thing):
                     self.assertIs(are_apart(SIX, calendar, thing), False)
@@ -390,7 +452,10 @@ class FewestDays(unittest.TestCase):
 class BestDay(unittest.TestCase):
     def test_best_day(self):
         self.assertEqual(best_day(SIX, Calendar(STAYS)), (3, 3))
-        self.assertEqual((best_day(CROWD, always(3, 9)), best_day(CROWD, always(0, 0)), best_day(CROWD, always(40, 40))), ((8, 3), (8, 0), (8, 40)))
+        self.assertEqual(
+            (best_day(CROWD, always(3, 9)), best_day(CROWD, always(0, 0)), best_day(CROWD, always(40, 40))),
+            ((8, 3), (8, 0), (8, 40)),
+        )
 
     def test_rings_and_rows(self):
         sheet = (("a", ("b",)), ("b", ("c",)), ("c", ("a", "x"))), ("x",)

@@ -19,7 +19,7 @@ SIX_ALL = (tuple((name, tuple(home for home in "abcdefxy" if home != name)) for 
 
 def with_order(sheet, order, bound=2):
     exchange = Exchange(sheet, bound=bound)
-    exchange.order = order
+    exchange.order = tuple(order)
     return exchange
 
 
@@ -34,7 +34,10 @@ class Beginning(unittest.TestCase):
             self.assertEqual((len(exchange), "ann" in exchange, exchange.plan(), exchange.undo()), (0, False, Plan(), False))
         for bound in BOUNDS:
             exchange = Exchange(((), ("x",)), bound=bound)
-            self.assertEqual((exchange.bound, exchange.plan(), exchange.run(), exchange.run(), exchange.plans), (bound, Plan(), Plan(), Plan(), (Plan(), Plan())))
+            self.assertEqual(
+                (exchange.bound, exchange.plan(), exchange.run(), exchange.run(), exchange.plans),
+                (bound, Plan(), Plan(), Plan(), (Plan(), Plan())),
+            )
             self.assertEqual((exchange.sheet, exchange.order), (((), ("x",)), ()))
 
     def test_with_a_sheet(self):
@@ -172,7 +175,7 @@ class BoundAndOrder(unittest.TestCase):
         for bound in (3, None, 2, 2):
             exchange.bound = bound
             self.assertEqual(exchange.bound, bound)
-        for bound in (1, 4, 0, "2", True, (), [3], Plan(), PRICES):
+        for bound in (1, 4, 0, "2", True, 2.0, 3.0, (), [3], Plan(), PRICES):
             for call in (lambda: setattr(exchange, "bound", bound), lambda: exchange.change("bound", bound)):
                 self.assertEqual(raised(call), (BadBound, {"bound": bound}))
                 self.assertEqual(exchange.bound, 2)
@@ -186,9 +189,12 @@ class BoundAndOrder(unittest.TestCase):
     def test_wrong_orders(self):
         exchange = Exchange(SIX)
         wrong = (
-            (("ann", "new", "zoe"), NoHousehold, "new"), (("ann", "bob", "ann"), NoHousehold, "ann"), ((*EVERYBODY, "bob"), NoHousehold, "bob"),
-            (("ann", "bob", "bob", "zoe"), NoHousehold, "bob"), (("ann", "zoe", "ann"), NoHousehold, "zoe"), (["zoe"], NoHousehold, "zoe"),
-            ((*EVERYBODY, "zoe"), NoHousehold, "zoe"), (("eve", "eve", "cat", "cat"), NoHousehold, "eve"), ((), BadOrder, None), (EVERYBODY[1:], BadOrder, None),
+            (("ann", "new", "zoe"), NoHousehold, "new"), (("ann", "bob", "ann"), NoHousehold, "ann"),
+            ((*EVERYBODY, "bob"), NoHousehold, "bob"),
+            (("ann", "bob", "bob", "zoe"), NoHousehold, "bob"), (("ann", "zoe", "ann"), NoHousehold, "zoe"),
+            (["zoe"], NoHousehold, "zoe"),
+            ((*EVERYBODY, "zoe"), NoHousehold, "zoe"), (("eve", "eve", "cat", "cat"), NoHousehold, "eve"),
+            ((), BadOrder, None), (EVERYBODY[1:], BadOrder, None),
             (list(EVERYBODY[:5]), BadOrder, None),
         )
         for line, error, name in wrong:
@@ -236,6 +242,17 @@ class Plans(unittest.TestCase):
             self.assertEqual(with_order(FORK, order, 3).plan().text, "b>c>d>b")
             self.assertEqual(with_order(FORK, order, 2).plan().text, "a>b>a")
 
+    def test_as_many_as_can_be_whoever_is_ahead(self):
+        # Two rows to one empty home, the shorter one of those who stand first.
+        sheet = ((("a", ("b",)), ("b", ("x",)), ("c", ("d",)), ("d", ("e",)), ("e", ("x",))), ("x",))
+        self.assertEqual(with_order(sheet, "abcde", None).plan().text, "c>d>e>x")
+        self.assertEqual(with_order((sheet[0][:4], ("e", "x")), "abcd", None).plan().text, "a>b>x; c>d>e")
+        long = ((("a", ("x",)), *[(name, (other,)) for name, other in zip("bcdef", "cdefx")]), ("x",))
+        for order in ("abcdef", "afedcb", "bacdef"):
+            self.assertEqual(with_order(long, order, None).plan().text, "b>c>d>e>f>x")
+        rings = ((("a", ("b",)), ("b", ("a", "c")), ("c", ("d",)), ("d", ("b",))), ())
+        self.assertEqual(with_order(rings, "abcd", 3).plan().text, "b>c>d>b")
+
     def test_the_order_tells_who_moves(self):
         sheet = ((("a", ("x",)), ("b", ("x",)), ("c", ("x",))), ("x",))
         self.assertEqual([with_order(sheet, order, None).plan().text for order in ("abc", "bca", "cab")], ["a>x", "b>x", "c>x"])
@@ -247,7 +264,9 @@ class Plans(unittest.TestCase):
         sheet = ((("a", ("d",)), ("b", ("c", "d")), ("c", ("b", "d")), ("d", ("a", "b", "c")), ("e", ("d",))), ())
         self.assertEqual(with_order(sheet, ("a", "b", "c", "d", "e")).plan().text, "a>d>a; b>c>b")
         three = ((("a", ("d",)), ("b", ("d",)), ("c", ("d",)), ("d", ("a", "b", "c"))), ())
-        self.assertEqual([with_order(three, order).plan().text for order in ("abcd", "cbad", "dbac")], ["a>d>a", "c>d>c", "b>d>b"])
+        self.assertEqual(
+            [with_order(three, order).plan().text for order in ("abcd", "cbad", "dbac")], ["a>d>a", "c>d>c", "b>d>b"],
+        )
 
     def test_the_least_homes(self):
         self.assertEqual(Exchange(SIX_ALL).plan().text, "a>b>a; c>d>c; e>f>e")
@@ -285,7 +304,10 @@ class Plans(unittest.TestCase):
         self.assertEqual(exchange.plan().text, "a>b>a; c>d>c; e>f>e; g>h>g")
         for bound in BOUNDS:
             exchange = Exchange(SIX_ALL, bound=bound)
-            self.assertEqual((len(exchange.plan()), len(exchange.run()), len(exchange), exchange.plans[0].movers), (6, 6, 0, tuple("abcdef")))
+            self.assertEqual(
+                (len(exchange.plan()), len(exchange.run()), len(exchange), exchange.plans[0].movers),
+                (6, 6, 0, tuple("abcdef")),
+            )
         # Somewhat beyond them, too.
         for bound in BOUNDS:
             self.assertEqual(len(Exchange(CROWD, bound=bound).plan()), 8)
@@ -309,8 +331,10 @@ class Runs(unittest.TestCase):
     def test_a_row_that_is_cut(self):
         sheet = ((("a", ("b",)), ("b", ("c",)), ("c", ("x",)), ("d", ("a",))), ("x",))
         for gone, text, rows, empties in (
-            ((), "d>a>b>c>x", (), ("d",)), (("d",), "a>b>c>x", sheet[0][3:], ("a",)), (("a",), "b>c>x", (sheet[0][0], sheet[0][3]), ("b",)),
-            (("c",), "-", sheet[0], ("x",)), (("b", "d"), "c>x", (*sheet[0][:2], sheet[0][3]), ("c",)), (("a", "b", "c", "d"), "-", sheet[0], ("x",)),
+            ((), "d>a>b>c>x", (), ("d",)), (("d",), "a>b>c>x", sheet[0][3:], ("a",)),
+            (("a",), "b>c>x", (sheet[0][0], sheet[0][3]), ("b",)),
+            (("c",), "-", sheet[0], ("x",)), (("b", "d"), "c>x", (*sheet[0][:2], sheet[0][3]), ("c",)),
+            (("a", "b", "c", "d"), "-", sheet[0], ("x",)),
         ):
             exchange = Exchange(sheet, bound=None)
             with self.subTest(gone=gone):
@@ -358,9 +382,11 @@ class Attempts(unittest.TestCase):
 
     def test_each_deed_is_as_its_own_call(self):
         calls = (
-            (("want", "gus", ("ann",)), lambda one: one.__setitem__("gus", ("ann",))), (("leave", "fay"), lambda one: one.leave("fay")),
+            (("want", "gus", ("ann",)), lambda one: one.__setitem__("gus", ("ann",))),
+            (("leave", "fay"), lambda one: one.leave("fay")),
             (("offer", "big"), lambda one: one.offer("big")), (("close", "new"), lambda one: one.close("new")),
-            (("bound", None), lambda one: one.change("bound", None)), (("order", EVERYBODY[::-1]), lambda one: one.change("order", EVERYBODY[::-1])),
+            (("bound", None), lambda one: one.change("bound", None)),
+            (("order", EVERYBODY[::-1]), lambda one: one.change("order", EVERYBODY[::-1])),
             (("run", ("cat",)), lambda one: one.run(gone=("cat",))),
         )
         for deed, call in calls:
@@ -375,13 +401,19 @@ class Attempts(unittest.TestCase):
         exchange = Exchange(SIX)
         exchange.leave("fay")
         self.assertEqual((exchange.attempt(()), exchange.attempt([])), ((), ()))
-        self.assertEqual([exchange.undo(), exchange.undo(), len(exchange), exchange.undo(), len(exchange), exchange.undo()], [True, True, 5, True, 6, False])
+        self.assertEqual(
+            [exchange.undo(), exchange.undo(), len(exchange), exchange.undo(), len(exchange), exchange.undo()],
+            [True, True, 5, True, 6, False],
+        )
 
     def test_stopped(self):
         wrong = (
-            (("want", "new", ()), "Taken", "new"), (("leave", "zoe"), "NoHousehold", "zoe"), (("offer", "ann"), "Taken", "ann"),
-            (("offer", "new"), "Taken", "new"), (("close", "ann"), "NoHome", "ann"), (("bound", 5), "BadBound", 5), (("bound", (2,)), "BadBound", (2,)),
-            (("order", ("ann", "ann")), "NoHousehold", "ann"), (("order", ("ann",)), "BadOrder", None), (("run", ("ann", "zoe", "yan")), "NoHousehold", "zoe"),
+            (("want", "new", ()), "Taken", "new"), (("leave", "zoe"), "NoHousehold", "zoe"),
+            (("offer", "ann"), "Taken", "ann"),
+            (("offer", "new"), "Taken", "new"), (("close", "ann"), "NoHome", "ann"), (("bound", 5), "BadBound", 5),
+            (("bound", (2,)), "BadBound", (2,)),
+            (("order", ("ann", "ann")), "NoHousehold", "ann"), (("order", ("ann",)), "BadOrder", None),
+            (("run", ("ann", "zoe", "yan")), "NoHousehold", "zoe"),
         )
         for deed, word, value in wrong:
             exchange = Exchange(SIX)
@@ -402,7 +434,10 @@ class Attempts(unittest.TestCase):
         self.assertEqual(exchange.attempt(deeds), (None,) * 4)
         self.assertEqual((exchange.order, exchange.sheet[1]), (("bob", "cat", "dan", "eve", "fay", "new"), ("ann",)))
         # The other way round the wish for a taken name fails.
-        self.assertEqual(raised(lambda: Exchange(SIX).attempt(deeds[1::-1])), (Stopped, {"number": 0, "word": "Taken", "value": "new"}))
+        self.assertEqual(
+            raised(lambda: Exchange(SIX).attempt(deeds[1::-1])),
+            (Stopped, {"number": 0, "word": "Taken", "value": "new"}),
+        )
 
     def test_undo_behind_a_failed_attempt(self):
         exchange = Exchange(SIX)
@@ -416,9 +451,12 @@ class Undo(unittest.TestCase):
         exchange = Exchange(SIX)
         states = [exchange.twin()]
         deeds = (
-            lambda: exchange.__setitem__("ann", ("cat",)), lambda: exchange.__setitem__("gus", ()), lambda: exchange.leave("gus"), lambda: exchange.offer("old"),
-            lambda: exchange.close("new"), lambda: setattr(exchange, "bound", 3), lambda: setattr(exchange, "order", EVERYBODY[::-1]),
-            lambda: exchange.change("bound", None), lambda: exchange.change("order", EVERYBODY), lambda: exchange.run(gone=("ann",)), lambda: exchange.attempt(()),
+            lambda: exchange.__setitem__("ann", ("cat",)), lambda: exchange.__setitem__("gus", ()),
+            lambda: exchange.leave("gus"), lambda: exchange.offer("old"),
+            lambda: exchange.close("new"), lambda: setattr(exchange, "bound", 3),
+            lambda: setattr(exchange, "order", EVERYBODY[::-1]),
+            lambda: exchange.change("bound", None), lambda: exchange.change("order", EVERYBODY),
+            lambda: exchange.run(gone=("ann",)), lambda: exchange.attempt(()),
             lambda: exchange.attempt((("leave", "fay"), ("run", ()))),
         )
         for deed in deeds:
@@ -440,7 +478,10 @@ class Undo(unittest.TestCase):
         empty = Exchange(((("a", ()),), ()))
         empty.run()
         empty.run()
-        self.assertEqual([len(empty.plans), empty.undo(), len(empty.plans), empty.undo(), len(empty.plans), empty.undo()], [2, True, 1, True, 0, False])
+        self.assertEqual(
+            [len(empty.plans), empty.undo(), len(empty.plans), empty.undo(), len(empty.plans), empty.undo()],
+            [2, True, 1, True, 0, False],
+        )
 
     def test_undo_takes_back_no_undo(self):
         exchange = Exchange(SIX)
@@ -460,8 +501,10 @@ class Undo(unittest.TestCase):
     def test_what_fails_is_no_deed(self):
         exchange = Exchange(SIX)
         calls = (
-            lambda: exchange.leave("zoe"), lambda: exchange.offer("ann"), lambda: exchange.close("ann"), lambda: exchange.run(gone=("zoe",)),
-            lambda: exchange.change("bound", 4), lambda: exchange.change("order", ()), lambda: exchange.__setitem__("new", ()), lambda: exchange["zoe"],
+            lambda: exchange.leave("zoe"), lambda: exchange.offer("ann"), lambda: exchange.close("ann"),
+            lambda: exchange.run(gone=("zoe",)),
+            lambda: exchange.change("bound", 4), lambda: exchange.change("order", ()),
+            lambda: exchange.__setitem__("new", ()), lambda: exchange["zoe"],
         )
         for call in calls:
             self.assertIsNotNone(raised(call))
@@ -475,7 +518,10 @@ class Twins(unittest.TestCase):
         exchange.run(gone=("fay",))
         twin = exchange.twin()
         self.assertTrue(twin == exchange)
-        self.assertEqual([twin.undo(), twin.bound, len(twin), twin.undo(), twin.bound, twin.undo()], [True, None, 6, True, 2, False])
+        self.assertEqual(
+            [twin.undo(), twin.bound, len(twin), twin.undo(), twin.bound, twin.undo()],
+            [True, None, 6, True, 2, False],
+        )
         self.assertEqual((len(exchange), exchange.bound, len(exchange.plans)), (1, None, 1))
         self.assertEqual([exchange.undo(), exchange.undo(), exchange.undo()], [True, True, False])
 
@@ -502,7 +548,10 @@ class Twins(unittest.TestCase):
         exchange = Exchange(SIX)
         self.assertTrue(exchange == Exchange(lists(SIX), bound=2))
         self.assertFalse(exchange != Exchange(SIX))
-        others = [Exchange(SIX, bound=3), Exchange(SIX, bound=None), with_order(SIX, EVERYBODY[::-1]), Exchange((SIX[0], ())), Exchange(), Exchange(LONELY)]
+        others = [
+            Exchange(SIX, bound=3), Exchange(SIX, bound=None), with_order(SIX, EVERYBODY[::-1]),
+            Exchange((SIX[0], ())), Exchange(), Exchange(LONELY),
+        ]
         done = Exchange(LONELY)
         done.run()
         self.assertEqual((done.sheet, done.order, done == Exchange(LONELY)), (LONELY, ("a", "b", "c", "d"), False))

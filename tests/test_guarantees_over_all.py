@@ -1,4 +1,4 @@
-"""What [1] promises over the whole, (g) and (h), and between the functions of all files, on drawn SHEETs to the bounds of [3]."""
+"""What [1] promises over the whole, (g) and (h), and between all files, on drawn SHEETs to the bounds of [3]."""
 
 import random
 import unittest
@@ -61,7 +61,9 @@ class Days(unittest.TestCase):
             if most == 0:
                 self.assertEqual((start, end), (None, None))
                 continue
-            self.assertEqual((most_between(sheet, calendar, first=start), most_between(sheet, calendar, last=end)), (most, most))
+            self.assertEqual(
+                (most_between(sheet, calendar, first=start), most_between(sheet, calendar, last=end)), (most, most),
+            )
             self.assertLess(most_between(sheet, calendar, first=start + 1), most)
             if end > 0:
                 self.assertLess(most_between(sheet, calendar, last=end - 1), most)
@@ -104,9 +106,15 @@ class Days(unittest.TestCase):
             for come, go in ((0, 40), (0, 0), (40, 40), (3, 9)):
                 calendar = Calendar.always(sheet, come, go)
                 most, pairs = most_swaps(sheet), suiting(sheet)
-                self.assertEqual((meeting_sheet(sheet, calendar), most_between(sheet, calendar)), (meeting_sheet(sheet, calendar, last=go), most))
+                self.assertEqual(
+                    (meeting_sheet(sheet, calendar), most_between(sheet, calendar)),
+                    (meeting_sheet(sheet, calendar, last=go), most),
+                )
                 self.assertEqual(suiting(meeting_sheet(sheet, calendar)), pairs)
-                self.assertEqual((latest_start(sheet, calendar), earliest_end(sheet, calendar)), (go, come) if most else (None, None))
+                self.assertEqual(
+                    (latest_start(sheet, calendar), earliest_end(sheet, calendar)),
+                    (go, come) if most else (None, None),
+                )
                 self.assertEqual((days_for(sheet, calendar), fewest_days(sheet, calendar)), ((go,), 1) if pairs else ((), 0))
                 self.assertEqual(day_by_day(sheet, calendar, order), [(come, kept(sheet, order))] if most else [])
                 self.assertEqual(best_day(sheet, calendar), (most_any(sheet), come) if households(sheet) else None)
@@ -118,7 +126,10 @@ class Days(unittest.TestCase):
             later = calendar + many
             self.assertEqual(meeting_sheet(sheet, later), meeting_sheet(sheet, calendar))
             self.assertEqual(days_for(sheet, later), tuple(day + many for day in days_for(sheet, calendar)))
-            self.assertEqual(day_by_day(sheet, later, order), [(day + many, some) for day, some in day_by_day(sheet, calendar, order)])
+            self.assertEqual(
+                day_by_day(sheet, later, order),
+                [(day + many, some) for day, some in day_by_day(sheet, calendar, order)],
+            )
             best = best_day(sheet, calendar)
             self.assertEqual(best_day(sheet, later), best if best is None else (best[0], best[1] + many))
             self.assertEqual(len(calendar), len(later))
@@ -140,18 +151,23 @@ class Exchanges(unittest.TestCase):
     def drawn_deed(self, chance, exchange):
         names = (*exchange.order, "zoe", "yan")
         name = chance.choice(names)
-        few = len(exchange) < 6 or name in exchange
+        wishing = name if len(exchange) < 6 or name in exchange else exchange.order[0]
         return chance.choice((
-            ("want", name if few else exchange.order[0], drawn(chance, [one for one in ("mm", *sorted(names), "zz") if one not in (name, *exchange.order[:1])])),
-            ("leave", name), ("offer" if len(exchange.sheet[1]) < 2 else "close", chance.choice(("mm", "zz", *exchange.sheet[1]))),
-            ("bound", chance.choice((2, 3, None, 5))), ("order", chance.choice((shuffled(chance, exchange.order), exchange.order[1:]))),
+            ("want", wishing, drawn(chance, sorted({"mm", "zz", *names} - {wishing}))),
+            ("leave", name),
+            ("offer" if len(exchange.sheet[1]) < 2 else "close", chance.choice(("mm", "zz", *exchange.sheet[1]))),
+            ("bound", chance.choice((2, 3, None, 5))),
+            ("order", chance.choice((shuffled(chance, exchange.order), exchange.order[1:]))),
             ("run", drawn(chance, names)), ("run", ()),
         ))
 
     def check_as_new(self, exchange):
         new = Exchange(exchange.sheet, bound=exchange.bound)
         new.order = exchange.order
-        self.assertEqual((new.plan(), new.sheet, new.order, new.bound, len(new)), (exchange.plan(), exchange.sheet, exchange.order, exchange.bound, len(exchange)))
+        self.assertEqual(
+            (new.plan(), new.sheet, new.order, new.bound, len(new)),
+            (exchange.plan(), exchange.sheet, exchange.order, exchange.bound, len(exchange)),
+        )
         twin = exchange.twin()
         self.assertEqual((new.run(), new.sheet, new.order), (twin.run(), twin.sheet, twin.order))
         self.assertEqual((twin.undo(), twin == exchange), (True, True))
@@ -258,7 +274,10 @@ class Texts(unittest.TestCase):
                 exchange = Exchange(sheet, bound=bound)
                 exchange.run(gone=drawn(chance, households(sheet)))
                 self.assertEqual(sheet_in(sheet_text(exchange.sheet)), exchange.sheet)
-                self.assertEqual([plan_in(plan.text) for plan in (*exchange.plans, exchange.plan())], [*exchange.plans, exchange.plan()])
+                self.assertEqual(
+                    [plan_in(plan.text) for plan in (*exchange.plans, exchange.plan())],
+                    [*exchange.plans, exchange.plan()],
+                )
 
     def test_a_desk_is_an_exchange(self):
         chance = random.Random(16)
@@ -267,13 +286,20 @@ class Texts(unittest.TestCase):
             gone = drawn(chance, households(sheet))
             line = shuffled(chance, households(sheet))
             text = sheet_text(sheet)
-            requests = ["order " + " ".join(line) if line else "order", "bound any", "plan", f"run without {','.join(gone) or '-'}", "undo", "most", "homes", "who"]
+            requests = [
+                "order " + " ".join(line) if line else "order", "bound any", "plan",
+                f"run without {','.join(gone) or '-'}", "undo", "most", "homes", "who",
+            ]
             told = answers("\n".join([*([text] if text else []), "", *requests]))
             exchange.order = line
             exchange.bound = None
             plan = exchange.plan()
             homes = ",".join(sorted([*households(sheet), *sheet[1]])) or "-"
-            self.assertEqual(told, ["done", "done", plan.text, exchange.run(gone=gone).text, "yes", str(most_swaps(sheet)), homes, ",".join(plan.movers) or "-"])
+            self.assertEqual(
+                told,
+                ["done", "done", plan.text, exchange.run(gone=gone).text, "yes", str(most_swaps(sheet)), homes,
+                 ",".join(plan.movers) or "-"],
+            )
 
 
 if __name__ == "__main__":

@@ -47,7 +47,7 @@ def own_calls(node):
 
 
 def handler_faults(tree):
-    """L19: a handler names one own error; the caught error is only asked for what it keeps, and its name is used once."""
+    """L19: a handler names one own error; the caught error is only asked for what it keeps, its name used once."""
     faults = []
     for function in functions_in(tree):
         handlers = [node for node in ast.walk(function) if isinstance(node, ast.ExceptHandler)]
@@ -85,7 +85,7 @@ def unchanging(made):
 
 
 def change_faults(tree):
-    """L5, L28: an operator or a property assigns nothing but local names, and calls nothing that changes what it is off."""
+    """L5, L28: an operator or a property assigns nothing but local names, and calls nothing that changes anything."""
     faults = []
     for method in [one for made in classes_in(tree) for one in unchanging(made)]:
         for node in ast.walk(method):
@@ -99,7 +99,7 @@ def change_faults(tree):
 
 
 def property_faults(trees):
-    """L5: forms of properties; none is assigned in the package, and none has the name of a method or of an attribute of its class."""
+    """L5: forms of properties; none is assigned in the package, and none has the name of a method or an attribute."""
     faults, names, methods = [], set(), set()
     for made in [made for tree in trees for made in classes_in(tree)]:
         for method in methods_of(made):
@@ -148,7 +148,7 @@ def sum_faults(trees):
 
 
 def attribute_faults(trees):
-    """L18, L26: attributes that are read are assigned somewhere, and no own name is one of Python's own values' names."""
+    """L18, L26: attributes that are read are assigned somewhere, and no own name is one of Python's values."""
     faults = []
     nodes = [node for tree in trees for node in ast.walk(tree) if isinstance(node, ast.Attribute)]
     assigned = {node.attr for node in nodes if isinstance(node.ctx, ast.Store)}
@@ -199,17 +199,21 @@ class TheChecks(unittest.TestCase):
         "def f(x):\n    try:\n        return g(x)\n    except Taken as e:\n        return e\n",
         "def f(x):\n    try:\n        return g(x)\n    except Taken as x:\n        return x.name\n",
         "def f(x):\n    try:\n        return g(x)\n    except Taken as e:\n        return e.name\n    except Clash as e:\n        return e.name\n",
-        "def f(x):\n    raise x\n", "def f(x):\n    raise f(x)\n", "def f(x):\n    raise ValueError(x)\n", "def f(x):\n    raise Taken(x) from x\n", "def f(x):\n    raise Taken\n",
+        "def f(x):\n    raise x\n", "def f(x):\n    raise f(x)\n", "def f(x):\n    raise ValueError(x)\n",
+        "def f(x):\n    raise Taken(x) from x\n", "def f(x):\n    raise Taken\n",
         "class A:\n    def __len__(self):\n        self._n = 1\n        return len(self._n)\n",
         "class A:\n    def __contains__(self, x):\n        self._n.append(x)\n        return True\n\n    def __init__(self):\n        self._n = []\n",
-        "class A:\n    def __add__(self, other):\n        return self(other)\n", "class A:\n    def __add__(self, other):\n        n = 1\n        n += other\n        return n\n",
+        "class A:\n    def __add__(self, other):\n        return self(other)\n",
+        "class A:\n    def __add__(self, other):\n        n = 1\n        n += other\n        return n\n",
         "class A:\n    @property\n    def n(self):\n        del self._n\n        return 1\n\n    def __init__(self):\n        self._n = []\n",
         "class A:\n    @property\n    def n(self):\n        return 1\n\n\nclass B:\n    def n(self):\n        return 1\n",
         "class A:\n    @property\n    def n(self):\n        return 1\n\n\ndef f(x):\n    x.n = 3\n",
         "class A:\n    @property\n    def n(self):\n        return 1\n\n    @n.setter\n    def n(self, other):\n        return None\n",
-        "class A:\n    def n(self):\n        self.n = 3\n", "class A:\n    pass\n\n\ndef f():\n    return A\n", "class A:\n    def of(self):\n        return 1\n\n\ndef f(x):\n    return A.of(x)\n",
+        "class A:\n    def n(self):\n        self.n = 3\n", "class A:\n    pass\n\n\ndef f():\n    return A\n",
+        "class A:\n    def of(self):\n        return 1\n\n\ndef f(x):\n    return A.of(x)\n",
         "class A:\n    def __iadd__(self, other):\n        return self\n\n\ndef f(x):\n    x += 1\n    return x\n",
-        "def f(x):\n    return x.far\n", "class A:\n    def upper_one(self):\n        return 1\n\n    def encode(self):\n        return 1\n",
+        "def f(x):\n    return x.far\n",
+        "class A:\n    def upper_one(self):\n        return 1\n\n    def encode(self):\n        return 1\n",
     )
 
     def test_right(self):

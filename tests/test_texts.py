@@ -24,7 +24,10 @@ class SheetTexts(unittest.TestCase):
 
     def test_sheet_in(self):
         self.assertEqual(sheet_in(SIX_TEXT), SIX)
-        self.assertEqual((sheet_in(""), sheet_in("+ x"), sheet_in("a:"), sheet_in("a:\nb:")), (NOBODY, ((), ("x",)), ((("a", ()),), ()), ((("a", ()), ("b", ())), ())))
+        self.assertEqual(
+            (sheet_in(""), sheet_in("+ x"), sheet_in("a:"), sheet_in("a:\nb:")),
+            (NOBODY, ((), ("x",)), ((("a", ()),), ()), ((("a", ()), ("b", ())), ())),
+        )
         self.assertEqual(sheet_in(text="abcdefgh: zzzzzzzz\n+ a zzzzzzzz"), ((("abcdefgh", ("zzzzzzzz",)),), ("a", "zzzzzzzz")))
 
     def test_told_and_read_again(self):
@@ -46,16 +49,23 @@ class SheetTexts(unittest.TestCase):
 
     def test_lines_that_are_not_so_written(self):
         for line in (
-            " ", "  ", "a", "a ", "a:b", "a :", "a: ", " a:", "a:  b", "a: b ", "a: b  c", "a:\tb", "a: b\t", "a: b,c", "A:", "a: B", "abcdefghi:", "a: abcdefghi",
-            ":", ": a", "a::", "a:: b", "a: b:", "a: b: c", "1:", "a: 1", "a: -", "-", "+", "+ ", " +", "+a", "+  a", "+ a ", "+ A", "+ a,b", "+ +", "+: a", "++ a", "a: +",
-            "a: b\r", "\r", "\ta:", "a: \u00e9", "\u00e9:", "a:\u00a0b", "a: b\u2028c:", "a: b\x0bc:", "a: b\x0cc:", "a: b\x1cc:", "a: \u03b1", "a%:", "plan", "a: {}", "a:b:",
+            " ", "  ", "a", "a ", "a:b", "a :", "a: ", " a:", "a:  b", "a: b ", "a: b  c", "a:\tb", "a: b\t", "a: b,c",
+            "A:", "a: B", "abcdefghi:", "a: abcdefghi",
+            ":", ": a", "a::", "a:: b", "a: b:", "a: b: c", "1:", "a: 1", "a: -", "-", "+", "+ ", " +", "+a", "+  a",
+            "+ a ", "+ A", "+ a,b", "+ +", "+: a", "++ a", "a: +",
+            "a: b\r", "\r", "\ta:", "a: \u00e9", "\u00e9:", "a:\u00a0b", "a: b\u2028c:", "a: b\x0bc:", "a: b\x0cc:",
+            "a: b\x1cc:", "a: \u03b1", "a%:", "plan", "a: {}", "a:b:",
         ):
             self.check_wrong(line, 0)
             self.check_wrong(f"aa:\n{line}", 1)
             self.check_wrong(f"aa: bb\nab:\n{line}\nA", 2)
 
     def test_empty_lines(self):
-        for text, number in (("\n", 0), ("\n\n", 0), ("a:\n", 1), ("\na:", 0), ("a:\n\nb:", 1), ("a:\n\n+ x", 1), ("a:\n+ x\n", 2), ("+ x\n", 1), (SIX_TEXT + "\n", 7)):
+        wrong = (
+            ("\n", 0), ("\n\n", 0), ("a:\n", 1), ("\na:", 0), ("a:\n\nb:", 1), ("a:\n\n+ x", 1), ("a:\n+ x\n", 2),
+            ("+ x\n", 1), (SIX_TEXT + "\n", 7),
+        )
+        for text, number in wrong:
             self.check_wrong(text, number)
         lines = SIX_TEXT.split("\n")
         for at in range(8):
@@ -63,9 +73,12 @@ class SheetTexts(unittest.TestCase):
 
     def test_lines_that_cannot_stand_there(self):
         for text, number in (
-            ("b:\na:", 1), ("a:\na:", 1), ("a:\nb:\na:", 2), ("a:\nc:\nb:\na:", 2), ("ab:\na:", 1), ("a: c b", 0), ("a: b b", 0), ("a: b c c", 0), ("a: a", 0), ("b: a b", 0),
-            ("a: b\nb: b", 1), ("+ b a", 0), ("+ a a", 0), ("+ a\n+ b", 1), ("+ a\nb:", 1), ("+ a\nA", 1), ("a:\n+ a", 1), ("a:\nb:\n+ b", 2), ("ann:\nbob: ann\n+ ann", 2),
-            ("a:\n+ b a", 1), ("a:\n+ b\nc:", 2), ("a:\n+ b\n+ c", 2), ("a: b c\nb: c a", 1), ("+ x\n+", 1), ("b:\na: a", 1),
+            ("b:\na:", 1), ("a:\na:", 1), ("a:\nb:\na:", 2), ("a:\nc:\nb:\na:", 2), ("ab:\na:", 1), ("a: c b", 0),
+            ("a: b b", 0), ("a: b c c", 0), ("a: a", 0), ("b: a b", 0),
+            ("a: b\nb: b", 1), ("+ b a", 0), ("+ a a", 0), ("+ a\n+ b", 1), ("+ a\nb:", 1), ("+ a\nA", 1),
+            ("a:\n+ a", 1), ("a:\nb:\n+ b", 2), ("ann:\nbob: ann\n+ ann", 2),
+            ("a:\n+ b a", 1), ("a:\n+ b\nc:", 2), ("a:\n+ b\n+ c", 2), ("a: b c\nb: c a", 1), ("+ x\n+", 1),
+            ("b:\na: a", 1),
         ):
             self.check_wrong(text, number)
 
@@ -81,8 +94,10 @@ class SheetTexts(unittest.TestCase):
 
 class PlanTexts(unittest.TestCase):
     TEXTS = (
-        ("-", ()), ("a>b>a", ((("a", "b"), ""),)), ("a>b", ((("a",), "b"),)), ("b>a", ((("b",), "a"),)), ("ann>bob>ann; fay>new", ((("ann", "bob"), ""), (("fay",), "new"))),
-        ("b>a>c", ((("b", "a"), "c"),)), ("a>c>b>a", ((("a", "c", "b"), ""),)), ("a>b>a; c>d>c; e>f; g>h", ((("a", "b"), ""), (("c", "d"), ""), (("e",), "f"), (("g",), "h"))),
+        ("-", ()), ("a>b>a", ((("a", "b"), ""),)), ("a>b", ((("a",), "b"),)), ("b>a", ((("b",), "a"),)),
+        ("ann>bob>ann; fay>new", ((("ann", "bob"), ""), (("fay",), "new"))),
+        ("b>a>c", ((("b", "a"), "c"),)), ("a>c>b>a", ((("a", "c", "b"), ""),)),
+        ("a>b>a; c>d>c; e>f; g>h", ((("a", "b"), ""), (("c", "d"), ""), (("e",), "f"), (("g",), "h"))),
         ("abcdefgh>z", ((("abcdefgh",), "z"),)), ("b>a; c>d", ((("b",), "a"), (("c",), "d"))),
     )
 
@@ -101,9 +116,12 @@ class PlanTexts(unittest.TestCase):
 
     def test_there_is_none(self):
         for text in (
-            "", " ", "--", " -", "- ", "-; -", "a", "a>", ">a", ">", ">>", "a>a", "a>b>", "a>b>c>", ">a>b", "a>>b", "b>a>b", "c>a>b>c", "a>b>b", "a>b>b>a", "a>b>a>b>a", "a>a>b", "a>b>c>b",
-            "a>b>a>c", "a>b; a>c", "a>b; c>b", "a>b; b>c", "a>b>a; a>c", "a>b>a; c>a", "b>c; a>d", "c>d>c; a>b>a", "a>b;c>d", "a>b;  c>d", "a>b ; c>d", "a>b; ", "; a>b", "a>b; -", "-; a>b",
-            "a>b; c>d;", "a> b", "a >b", " a>b", "a>b ", "A>b", "a>B", "a>b1", "abcdefghi>a", "a>abcdefghi", "a>b\n", "\na>b", "a>b\nc>d", "a>b>a; c", "a>b; c", "a,b", "a>-", "->a", "ann: bob",
+            "", " ", "--", " -", "- ", "-; -", "a", "a>", ">a", ">", ">>", "a>a", "a>b>", "a>b>c>", ">a>b", "a>>b",
+            "b>a>b", "c>a>b>c", "a>b>b", "a>b>b>a", "a>b>a>b>a", "a>a>b", "a>b>c>b",
+            "a>b>a>c", "a>b; a>c", "a>b; c>b", "a>b; b>c", "a>b>a; a>c", "a>b>a; c>a", "b>c; a>d", "c>d>c; a>b>a",
+            "a>b;c>d", "a>b;  c>d", "a>b ; c>d", "a>b; ", "; a>b", "a>b; -", "-; a>b",
+            "a>b; c>d;", "a> b", "a >b", " a>b", "a>b ", "A>b", "a>B", "a>b1", "abcdefghi>a", "a>abcdefghi", "a>b\n",
+            "\na>b", "a>b\nc>d", "a>b>a; c", "a>b; c", "a,b", "a>-", "->a", "ann: bob",
             "a>b>a; a>b>a", "a>b; a>b", "\u00e9>a", "a>\u00e9", "a>b\r", "None", "a-b", "a>b>a;\tc>d",
         ):
             with self.subTest(text=text):
